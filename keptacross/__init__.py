@@ -1,0 +1,1 @@
+"""Keptacross: a house of terms, and what a page still knows."""

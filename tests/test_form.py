@@ -1,0 +1,336 @@
+"""The package keeps to its subset of Python: what of that can be seen from the code, rule by rule."""
+
+import ast
+import builtins
+import io
+import os
+import re
+import tokenize
+import unittest
+
+FOLDER = os.path.join(os.path.dirname(os.path.abspath(__file__)), "..", "keptacross")
+
+BUILTINS = """len range enumerate zip min max sum abs sorted reversed int str bool bytes list tuple dict set frozenset
+isinstance ord repr any all divmod pow iter next super property classmethod staticmethod Exception ValueError TypeError
+KeyError IndexError LookupError ZeroDivisionError ArithmeticError OverflowError RuntimeError NotImplementedError
+AttributeError StopIteration NotImplemented""".split()
+METHODS = """append clear copy count endswith extend find get index insert isalnum isalpha isdigit islower isspace isupper
+items join keys ljust lower lstrip partition pop remove replace reverse rfind rjust rpartition rsplit rstrip setdefault
+split splitlines startswith strip update upper values zfill bit_length isascii removeprefix removesuffix""".split()
+SPECIAL = """__init__ __eq__ __repr__ __str__ __len__ __enter__ __exit__ __call__ __iter__ __lt__ __le__ __gt__ __ge__
+__ne__ __add__ __sub__ __mul__ __and__ __or__ __xor__ __bool__ __contains__ __getitem__ __setitem__""".split()
+BARRED = """register mro elements open input law version_info with_traceback add_note attrgetter breakpoint builtins
+compile copyright credits delattr dir eval exec exit gc getattr globals hasattr help id importlib license locals
+methodcaller os quit setattr type vars sys typing enum Enum Generic Protocol ABC namedtuple dataclass overload
+contextmanager abstractmethod metaclass Meta""".split()
+AT_ONCE = "list tuple dict sorted sum any all min max enumerate zip".split()
+OWN_ATTRIBUTES = "count index title find get join lower upper split strip copy add".split()
+VALUES_OWN = {name for kind in (str, int, list, dict, set, bytes, tuple) for name in dir(kind) if name[:1] != "_"}
+
+
+def files():
+    return sorted(name for name in os.listdir(FOLDER) if name != "__pycache__")
+
+
+def source(name):
+    with open(os.path.join(FOLDER, name), encoding="utf-8") as stream:
+        return stream.read()
+
+
+TREES = {name: ast.parse(source(name)) for name in files() if name.endswith(".py")}
+NODES = [(name, node) for name, tree in TREES.items() for node in ast.walk(tree)]
+FUNCTIONS = (ast.FunctionDef, ast.Lambda)
+
+
+def parents(tree):
+    return {child: node for node in ast.walk(tree) for child in ast.iter_child_nodes(node)}
+
+
+PARENTS = {name: parents(tree) for name, tree in TREES.items()}
+OWN_CLASSES = {node.name for _, node in NODES if isinstance(node, ast.ClassDef)}
+OWN_METHODS = {part.name for _, node in NODES if isinstance(node, ast.ClassDef)
+               for part in node.body if isinstance(part, ast.FunctionDef)}
+STORED = {node.attr for _, node in NODES if isinstance(node, ast.Attribute) and isinstance(node.ctx, ast.Store)}
+
+
+def decorated(word):
+    return {node.name for _, node in NODES if isinstance(node, ast.FunctionDef)
+            for name in node.decorator_list if isinstance(name, ast.Name) and name.id == word}
+
+
+def bound_at_module_level(tree):
+    found = []
+    for node in tree.body:
+        if isinstance(node, ast.ImportFrom):
+            found += [alias.name for alias in node.names]
+        elif isinstance(node, (ast.FunctionDef, ast.ClassDef)):
+            found.append(node.name)
+        elif isinstance(node, ast.Assign):
+            found += [target.id for target in node.targets]
+    return found
+
+
+def called(node):
+    """The bare name that a call calls, None if there is none."""
+    return node.func.id if isinstance(node, ast.Call) and isinstance(node.func, ast.Name) else None
+
+
+class Form(unittest.TestCase):
+    def bar(self, rule, found):
+        self.assertEqual([(name, getattr(node, "lineno", 0)) for name, node in found], [], rule)
+
+    def test_files(self):
+        for name in files():
+            self.assertRegex(name, r"^[a-z0-9_]+\.py$")
+            self.assertNotIn(name[:-3], vars(builtins))
+            text = source(name)
+            self.assertRegex(text, r"^[ -~\n]*$", name)
+            lines = text.split("\n")
+            self.assertLessEqual(len(lines), 400, name)
+            self.assertLessEqual(max(len(line) for line in lines), 120, name)
+        self.assertLessEqual(len(files()), 100)
+        self.assertIn("__init__.py", files())
+
+    def test_size_of_functions(self):
+        self.bar("L10", [(name, node) for name, node in NODES if isinstance(node, ast.FunctionDef)
+                         and node.end_lineno - node.lineno >= 40])
+
+    def test_imports(self):
+        for name, tree in TREES.items():
+            seen_other = False
+            for node in tree.body:
+                if isinstance(node, ast.ImportFrom):
+                    self.assertFalse(seen_other, name)
+                    self.assertEqual(node.level, 0)
+                    self.assertRegex(node.module, r"^keptacross\.[a-z]+$")
+                    theirs = TREES[node.module.partition(".")[2] + ".py"]
+                    own = [part.name for part in theirs.body if isinstance(part, (ast.FunctionDef, ast.ClassDef))]
+                    own += [part.targets[0].id for part in theirs.body if isinstance(part, ast.Assign)]
+                    for alias in node.names:
+                        self.assertIsNone(alias.asname)
+                        self.assertIn(alias.name, own, name)
+                elif not (isinstance(node, ast.Expr) and node is tree.body[0]):
+                    seen_other = True
+        self.bar("L2", [(name, node) for name, node in NODES if isinstance(node, ast.Import)])
+        self.bar("L2", [(name, node) for name, node in NODES if isinstance(node, ast.ImportFrom)
+                        and node not in TREES[name].body])
+
+    def test_imports_are_used_and_go_one_way(self):
+        ahead = {}
+        for name, tree in TREES.items():
+            read = {node.id for node in ast.walk(tree) if isinstance(node, ast.Name)}
+            ahead[name] = set()
+            for node in tree.body:
+                if isinstance(node, ast.ImportFrom):
+                    self.assertLessEqual({alias.name for alias in node.names}, read, name)
+                    ahead[name].add(node.module.partition(".")[2] + ".py")
+        while ahead:
+            free = [name for name, others in ahead.items() if not others & set(ahead)]
+            self.assertNotEqual(free, [], ahead)
+            for name in free:
+                del ahead[name]
+
+    def test_module_level(self):
+        for name, tree in TREES.items():
+            for node in tree.body:
+                if isinstance(node, ast.Expr):
+                    self.assertIs(node, tree.body[0])
+                    self.assertIsInstance(node.value.value, str)
+                elif isinstance(node, ast.Assign):
+                    self.assertEqual(len(node.targets), 1)
+                    self.assertIsInstance(node.targets[0], ast.Name)
+                    plain = (ast.Constant, ast.Tuple, ast.Dict, ast.Name, ast.Load, ast.UnaryOp, ast.USub)
+                    self.assertTrue(all(isinstance(part, plain) for part in ast.walk(node.value)), name)
+                else:
+                    self.assertIsInstance(node, (ast.ImportFrom, ast.FunctionDef, ast.ClassDef), name)
+            bound = bound_at_module_level(tree)
+            self.assertEqual(len(bound), len(set(bound)), name)
+        for node in TREES["__init__.py"].body:
+            self.assertIsInstance(node, ast.Expr)
+
+    def test_kinds_of_statements(self):
+        kinds = (ast.AsyncFunctionDef, ast.AsyncFor, ast.AsyncWith, ast.Await, ast.Global, ast.Nonlocal, ast.Import,
+                 ast.GeneratorExp, ast.SetComp, ast.Set, ast.Div, ast.MatMult, ast.Pow, ast.Match, ast.With,
+                 ast.Delete, ast.AnnAssign, ast.NamedExpr, ast.Yield, ast.YieldFrom)
+        self.bar("L6, L7", [(name, node) for name, node in NODES if isinstance(node, kinds)])
+        self.bar("L7", [(name, node) for name, node in NODES if isinstance(node, ast.Constant)
+                        and isinstance(node.value, (float, complex, bytes))])
+
+    def test_functions_and_classes(self):
+        for name, node in NODES:
+            if isinstance(node, ast.FunctionDef):
+                holder = PARENTS[name][node]
+                self.assertIsInstance(holder, (ast.Module, ast.ClassDef), node.name)
+                for word in node.decorator_list:
+                    self.assertIn(word.id, ("property", "classmethod"))
+                    self.assertIsInstance(holder, ast.ClassDef)
+                if node.name.startswith("__"):
+                    self.assertIn(node.name, SPECIAL)
+                    self.assertIsInstance(holder, ast.ClassDef)
+                self.assertFalse(any(arg.annotation for arg in node.args.args))
+                self.assertIsNone(node.returns)
+                for value in node.args.defaults + node.args.kw_defaults:
+                    self.assertIsInstance(value, (ast.Constant, ast.Tuple, ast.Name, type(None)))
+            if isinstance(node, ast.ClassDef):
+                self.assertIn(node, TREES[name].body)
+                self.assertEqual(node.decorator_list, [])
+                methods = [part.name for part in node.body if isinstance(part, ast.FunctionDef)]
+                self.assertEqual(len(methods), len(set(methods)))
+                if "__getitem__" in methods:
+                    self.assertIn("__iter__", methods)
+
+    def test_special_methods(self):
+        for name, node in NODES:
+            if isinstance(node, ast.FunctionDef) and node.name in ("__init__", "__len__", "__iter__"):
+                returns = [part.value for part in ast.walk(node) if isinstance(part, ast.Return)]
+                if node.name == "__init__":
+                    self.assertEqual(returns, [])
+                else:
+                    self.assertEqual([called(value) for value in returns], ["len" if node.name == "__len__" else "iter"])
+            if isinstance(node, ast.FunctionDef) and (node.name in SPECIAL[1:] and node.name != "__call__"
+                                                      or node.name in decorated("property")):
+                self.bar("L5", [(name, part) for part in ast.walk(node)
+                                if isinstance(part, (ast.AugAssign, ast.Delete))
+                                or isinstance(part, ast.Attribute) and isinstance(part.ctx, ast.Store)
+                                or isinstance(part, ast.Subscript) and isinstance(part.ctx, ast.Store)])
+
+    def test_builtins(self):
+        found = []
+        for name, node in NODES:
+            if isinstance(node, ast.Name) and node.id in vars(builtins):
+                if node.id not in BUILTINS or isinstance(node.ctx, ast.Store):
+                    found.append((name, node))
+            if isinstance(node, ast.arg) and node.arg in vars(builtins):
+                found.append((name, node))
+            if isinstance(node, (ast.FunctionDef, ast.ClassDef)) and node.name in vars(builtins):
+                found.append((name, node))
+        self.bar("L8, L15", found)
+
+    def test_names(self):
+        found = []
+        for name, node in NODES:
+            bound = [getattr(node, word, None) for word in ("id", "arg", "name", "attr")]
+            for word in bound:
+                if not isinstance(word, str) or word in SPECIAL:
+                    continue
+                if not re.fullmatch(r"_|_?[A-Za-z][A-Za-z0-9_]*", word) or (word in BARRED):
+                    found.append((name, node))
+                if re.match(r"_wall|_pe_|_dcw_|_enum_|_cm_|_twin_re_|_lay_|_law_|_stub_|_sre|_cold|_outside|_record", word):
+                    found.append((name, node))
+            if isinstance(node, ast.Name) and node.id == "_" and isinstance(node.ctx, ast.Load):
+                found.append((name, node))
+        self.bar("L12, L17", found)
+
+    def test_no_other_meaning_for_imports_and_classes(self):
+        found = []
+        for name, tree in TREES.items():
+            fixed = {alias.name for node in tree.body if isinstance(node, ast.ImportFrom) for alias in node.names}
+            fixed |= {node.name for node in tree.body if isinstance(node, ast.ClassDef)}
+            for node in ast.walk(tree):
+                if isinstance(node, ast.arg) and node.arg in fixed:
+                    found.append((name, node))
+                if isinstance(node, ast.Name) and isinstance(node.ctx, ast.Store) and node.id in fixed:
+                    found.append((name, node))
+        self.bar("L15", found)
+
+    def test_words_and_strings(self):
+        for name in TREES:
+            docs = {id(node.body[0].value) for node in ast.walk(TREES[name])
+                    if isinstance(node, (ast.Module, ast.ClassDef, ast.FunctionDef)) and node.body
+                    and isinstance(node.body[0], ast.Expr)}
+            for node in ast.walk(TREES[name]):
+                if isinstance(node, ast.Constant) and isinstance(node.value, str) and id(node) not in docs:
+                    for word in re.findall(r"\w+", node.value):
+                        self.assertNotIn(word, ("type", "typing", "enum", "dataclass", "overload"))
+                    self.assertNotIn("%", node.value)
+                    self.assertFalse(node.value.endswith("._"))
+            for token in tokenize.generate_tokens(io.StringIO(source(name)).readline):
+                if token.type == tokenize.STRING:
+                    self.assertNotRegex(token.string.replace("\\\\", ""), r"\\[^nt\"']")
+
+    def test_is(self):
+        self.bar("L20", [(name, node) for name, node in NODES if isinstance(node, ast.Compare)
+                         and any(isinstance(sign, (ast.Is, ast.IsNot)) for sign in node.ops)
+                         and not isinstance(node.comparators[-1], ast.Constant)])
+
+    def test_iterated_at_once(self):
+        found = []
+        for name, node in NODES:
+            lazy = called(node) in ("zip", "enumerate", "reversed", "range")
+            view = (isinstance(node, ast.Call) and isinstance(node.func, ast.Attribute)
+                    and node.func.attr in ("items", "keys", "values"))
+            if lazy or view:
+                holder = PARENTS[name][node]
+                loop = isinstance(holder, (ast.For, ast.comprehension)) and holder.iter is node
+                if not loop and not (called(holder) in AT_ONCE and holder.args[0] is node):
+                    found.append((name, node))
+        self.bar("L23", found)
+
+    def test_sets(self):
+        found = []
+        for name, node in NODES:
+            if called(node) == "set" and called(PARENTS[name][node]) not in ("len", "sorted"):
+                found.append((name, node))
+        self.bar("L24", found)
+
+    def test_methods_that_are_called(self):
+        self.bar("L25", [(name, node) for name, node in NODES if isinstance(node, ast.Call)
+                         and isinstance(node.func, ast.Attribute)
+                         and node.func.attr not in METHODS and node.func.attr not in OWN_METHODS])
+
+    def test_own_methods_and_attributes(self):
+        self.assertEqual({word for word in OWN_METHODS if word in VALUES_OWN}, set())
+        self.assertEqual({word for word in STORED if word in VALUES_OWN}, set())
+        self.assertEqual(decorated("property") & STORED, set())
+        self.assertEqual(decorated("classmethod") & STORED, set())
+        plain = OWN_METHODS - decorated("property") - decorated("classmethod")
+        self.assertEqual(plain & STORED, set())
+        self.assertEqual(plain & decorated("property"), set())
+        read = {node.attr for name, node in NODES if isinstance(node, ast.Attribute) and isinstance(node.ctx, ast.Load)
+                and not (isinstance(PARENTS[name][node], ast.Call) and PARENTS[name][node].func is node)}
+        values = {part.targets[0].id for _, node in NODES if isinstance(node, ast.ClassDef)
+                  for part in node.body if isinstance(part, ast.Assign)}
+        self.assertEqual(read - STORED - decorated("property") - values, set())
+
+    def test_classes_are_not_values(self):
+        found = []
+        for name, node in NODES:
+            if isinstance(node, ast.Name) and node.id in OWN_CLASSES and isinstance(node.ctx, ast.Load):
+                holder = PARENTS[name][node]
+                call = isinstance(holder, ast.Call) and (holder.func is node or called(holder) == "isinstance")
+                pair = isinstance(holder, ast.Tuple) and isinstance(PARENTS[name][holder], ast.ExceptHandler)
+                if not call and not pair and not isinstance(holder, (ast.ClassDef, ast.ExceptHandler)):
+                    found.append((name, node))
+        self.bar("L18", found)
+
+    def test_errors(self):
+        found = []
+        for name, node in NODES:
+            if isinstance(node, ast.Raise) and node.exc is not None and called(node.exc) is None:
+                found.append((name, node))
+            if isinstance(node, ast.ExceptHandler):
+                kinds = node.type.elts if isinstance(node.type, ast.Tuple) else [node.type]
+                if not all(isinstance(kind, ast.Name) and kind.id in OWN_CLASSES for kind in kinds):
+                    found.append((name, node))
+        self.bar("L19", found)
+
+    def test_keywords(self):
+        allowed = {"sorted": {"key", "reverse"}, "min": {"key", "default"}, "max": {"key", "default"},
+                   "sum": {"start"}, "enumerate": {"start"}, "zip": {"strict"}}
+        self.bar("L22", [(name, node) for name, node in NODES if called(node) in vars(builtins)
+                         and {word.arg for word in node.keywords} - allowed.get(called(node), set())])
+        self.bar("L22", [(name, node) for name, node in NODES if isinstance(node, ast.Call)
+                         and isinstance(node.func, ast.Attribute) and node.func.attr in METHODS and node.keywords])
+
+    def test_stars_in_calls(self):
+        found = []
+        for name, node in NODES:
+            if isinstance(node, ast.Call):
+                for arg in node.args:
+                    if isinstance(arg, ast.Starred) and not isinstance(arg.value, (ast.Name, ast.Attribute)):
+                        found.append((name, arg))
+        self.bar("L7", found)
+
+
+if __name__ == "__main__":
+    unittest.main()

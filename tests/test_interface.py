@@ -1,0 +1,90 @@
+"""Each name of the interface stands in its file, with its parameters."""
+
+import importlib
+import inspect
+import unittest
+
+NAMES = {
+    "words": ["is_word(thing)", "is_note(thing)", "is_token(thing)"],
+    "terms": ["is_scope(thing)", "is_way(thing, gap)"],
+    "carrying": ["hear(book, standing, token, pick=0)", "finish(book, standing)", "carried(book, reading)",
+                 "plain_reading(text)", "text_of(reading)"],
+    "booktext": ["write_term(term)", "write_book(book)", "read_term(lines)", "read_book(lines)"],
+    "styletext": ["write_style(style)", "read_style(lines)"],
+    "worktext": ["write_reading(reading)", "read_reading(line)", "write_work(chapters)", "read_work(lines)"],
+    "logtext": ["write_log(changes)", "read_log(lines)", "taken_up(lines)"],
+    "turners": ["judge_turners(turns, table)"],
+    "turnwords": ["led(turners, word, other)", "gathered(turners, words)", "surely_gathered(turners, words)"],
+    "turnback": ["undone(turners, row, words)", "ring(turners, row)", "spare(turners)"],
+}
+
+CLASSES = {
+    ("wordmaps", "WordMap"): ["__init__(self, pairs=())", "__len__(self)", "__iter__(self)", "__eq__(self, other)",
+                              "__contains__(self, word)", "__call__(self, word)", "then(self, second)", "of(pairs)"],
+    ("tongues", "Tongue"): ["__init__(self, words, *, headings=(), quote=None)", "__len__(self)", "__iter__(self)",
+                            "__contains__(self, word)", "__eq__(self, other)"],
+    ("styles", "Style"): ["__init__(self, rooms, ends)", "__len__(self)", "__iter__(self)", "__eq__(self, other)",
+                          "let(self, room)", "is_end(self, room)", "reads(self, text)", "free(words)"],
+    ("terms", "Term"): ["__init__(self, name, pattern, ways, *, scope=('work',), first=None, turn=None)",
+                        "__len__(self)", "__eq__(self, other)"],
+    ("books", "Book"): ["__init__(self, tongue, terms=(), *, turns=())", "__getitem__(self, name)",
+                        "__contains__(self, name)", "__len__(self)", "__iter__(self)", "__eq__(self, other)",
+                        "turn_of(self, name)"],
+    ("roads", "Road"): ["__init__(self, *books)", "hear(self, standing, word, pick=0)", "finish(self, standing)",
+                        "__call__(self, reading)", "__add__(self, other)", "__len__(self)", "__iter__(self)",
+                        "__eq__(self, other)"],
+    ("outlooks", "Outlook"): ["__init__(self, road, style)", "__len__(self)", "__iter__(self)",
+                              "__getitem__(self, n)", "follow(self, n)", "way(self, n)", "ending(self, n)",
+                              "place_of(self, state)"],
+    ("turners", "Turners"): ["__init__(self, turns)", "__call__(self, row)", "along(self, row)",
+                             "place_of(self, word_map)", "__len__(self)", "__iter__(self)"],
+}
+
+PROPERTIES = {
+    ("styles", "Style"): ["vocabulary"], ("terms", "Term"): ["gap"], ("books", "Book"): ["names", "picks"],
+    ("roads", "Road"): ["picks", "beginning"], ("turners", "Turners"): ["names"],
+}
+
+
+def module(name):
+    return importlib.import_module("keptacross." + name)
+
+
+class Interface(unittest.TestCase):
+    def test_functions(self):
+        for name, signatures in NAMES.items():
+            for signature in signatures:
+                with self.subTest(module=name, function=signature):
+                    function = getattr(module(name), signature.partition("(")[0])
+                    self.assertTrue(inspect.isfunction(function))
+                    self.assertEqual(function.__module__, "keptacross." + name)
+                    self.assertEqual(function.__name__ + str(inspect.signature(function)), signature)
+
+    def test_classes(self):
+        for (name, title), signatures in CLASSES.items():
+            listed = getattr(module(name), title)
+            self.assertEqual(listed.__module__, "keptacross." + name)
+            for signature in signatures:
+                with self.subTest(listed=title, method=signature):
+                    method = signature.partition("(")[0]
+                    self.assertIn(method, vars(listed))
+                    self.assertEqual(method + str(inspect.signature(getattr(listed, method))), signature)
+
+    def test_properties(self):
+        for (name, title), properties in PROPERTIES.items():
+            for asked in properties:
+                with self.subTest(listed=title, asked=asked):
+                    self.assertIsInstance(vars(getattr(module(name), title))[asked], property)
+
+    def test_values(self):
+        self.assertEqual(module("words").GAP, "_")
+        self.assertEqual(module("carrying").BEGINNING, ("", 0, (), (), (), ()))
+        self.assertEqual(vars(module("outlooks").Outlook)["MOST"], 300)
+
+    def test_the_package_binds_nothing_itself(self):
+        package = importlib.import_module("keptacross")
+        self.assertTrue(package.__doc__)
+
+
+if __name__ == "__main__":
+    unittest.main()

@@ -46,6 +46,14 @@ def are_terms(thing, tongue, turns):
     return len(set(names)) == len(names) and all([suits(term, tongue, turns) for term in thing])
 
 
+def by_first_word(terms):
+    """The terms, in rank, by the first words of their patterns."""
+    found = {}
+    for term in terms:
+        found.setdefault(term.pattern[0], []).append(term)
+    return {word: tuple(found[word]) for word in found}
+
+
 class Book:
     """A book has a tongue, at most 8 terms, whose order is their rank, and at most 4 turns."""
 
@@ -61,6 +69,8 @@ class Book:
         self.turns = kept(turns)
         # The words that are met are asked for with each word that is passed.
         self.watched = tuple([term.scope[1] for term in self.terms if term.scope[0] == "behind"])
+        # So are the terms that can begin with a word, wherever pieces are cut.
+        self.starting = by_first_word(self.terms)
 
     def __len__(self):
         return len(self.terms)

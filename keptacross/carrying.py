@@ -34,14 +34,14 @@ def begins(pattern, rest):
 
 def fitting(book, known, rest):
     """The terms that hold and fit at the beginning of the rest, in rank."""
-    return [term for term in book.terms
+    return [term for term in book.starting.get(rest[0][0], ())
             if len(term.pattern) <= len(rest) and begins(term.pattern, rest) and holds(term.scope, known)]
 
 
 def waits(book, known, held):
     """Whether a term may still come of the held words, if more words come."""
     return any([len(term.pattern) > len(held) and begins(term.pattern, held) and holds(term.scope, known)
-                for term in book.terms])
+                for term in book.starting.get(held[0][0], ())])
 
 
 def foremost(terms):
@@ -75,6 +75,8 @@ def way_of(book, term, known, rest):
 
 def turned_by(turn, said):
     """What is said when a turn waits, and the turn that waits then."""
+    if turn == ():
+        return said, turn
     for place, token in enumerate(said):
         if is_word(token):
             return said[:place] + (image(turn, token),) + said[place + 1:], ()
@@ -94,8 +96,13 @@ def passed(book, known, token):
 
 
 def cut(book, known, rest):
-    """The piece at the beginning of the rest: its term or None, its width, what is said, and what is known then."""
-    term = foremost(fitting(book, known, rest))
+    """The piece at the beginning of the rest, and what is known then.
+
+    The piece is told as the terms that hold and fit, in rank; the one of them that is used, or None; the width;
+    and what is said.
+    """
+    ready = fitting(book, known, rest)
+    term = foremost(ready)
     chapter, quoted, met, used, turn = known
     if term is None:
         width = 1
@@ -110,27 +117,41 @@ def cut(book, known, rest):
     known = (chapter, quoted, met, used, turn)
     for token, _ in rest[:width]:
         known = passed(book, known, token)
-    return term, width, said, known
+    return (ready, term, width, said), known
 
 
-def cut_all(book, known, rest, *, ended):
+def cut_pieces(book, known, rest, *, ended):
     """Cuts pieces from the rest: all of it if the text is ended, otherwise as long as no term waits.
 
-    Returns the names of their terms, what is said, what is known then, and what is held back.
+    Returns the pieces, what is known then, and what is held back.
     """
-    names = []
-    page = []
+    found = []
     place = 0
     while place < len(rest):
         # No term looks further than its own items.
         ahead = rest[place:place + MOST_ITEMS]
         if not ended and waits(book, known, ahead):
             break
-        term, width, said, known = cut(book, known, ahead)
-        names.append(None if term is None else term.name)
+        piece, known = cut(book, known, ahead)
+        found.append(piece)
+        place += piece[2]
+    return found, known, rest[place:]
+
+
+def name_of(term):
+    """The name of a term, None for the one of a kept word."""
+    return None if term is None else term.name
+
+
+def cut_all(book, known, rest, *, ended):
+    """Cuts pieces: the names of their terms, what is said, what is known then, and what is held back."""
+    found, known, held = cut_pieces(book, known, rest, ended=ended)
+    names = []
+    page = []
+    for _, term, _, said in found:
+        names.append(name_of(term))
         page.extend(said)
-        place += width
-    return tuple(names), tuple(page), known, rest[place:]
+    return tuple(names), tuple(page), known, held
 
 
 def go_on(book, standing, token, pick):

@@ -1,40 +1,26 @@
 """Outlooks: all that can come when texts of a style are carried along a road."""
 
-from keptacross.errors import NoState, TooMany
+from keptacross.errors import NoState
+from keptacross.roads import said_at_the_end, said_by_all
 from keptacross.rows import is_below, is_plain, kept
+from keptacross.search import arrived, explored
 from keptacross.styles import meet
 
 
-def steps_from(road, style, state):
-    """The steps from a state: word, pick, what is said, and the state behind it."""
+def steps_from(road, style, state, many):
+    """The steps from a state, with so many picks: word, pick, what is said, and the state behind it."""
     room, standing = state
     steps = []
     for word, leads in style.let(room):
-        for pick in range(road.picks):
-            said, behind = road.hear(standing, word, pick)
+        for pick in range(many):
+            said, behind = said_by_all(road.books, standing, word, pick)
             steps.append((word, pick, said, (leads, behind)))
     return steps
 
 
-def gone_through(road, style, most):
-    """The numbers of the states, as they are found, their steps, and how each of them is first come to."""
-    states = [(0, road.beginning)]
-    numbers = {states[0]: 0}
-    arrivals = [None]
-    follows = []
-    while len(follows) < len(states):
-        number = len(follows)
-        follow = []
-        for word, pick, said, state in steps_from(road, style, states[number]):
-            if state not in numbers:
-                if len(states) == most:
-                    raise TooMany("standing")
-                numbers[state] = len(states)
-                states.append(state)
-                arrivals.append((number, word, pick))
-            follow.append((word, pick, said, numbers[state]))
-        follows.append(tuple(follow))
-    return numbers, follows, arrivals
+def ending_of(road, style, state):
+    """What is said at the end in a state if its room is an end, otherwise None."""
+    return said_at_the_end(road.books, state[1]) if style.is_end(state[0]) else None
 
 
 class Outlook:
@@ -46,8 +32,10 @@ class Outlook:
         meet(road.books[0].tongue, style)
         self.road = road
         self.style = style
-        self._numbers, self._follows, self._arrivals = gone_through(road, style, self.MOST)
+        self._numbers, self._follows, self._arrivals = explored(
+            [(0, road.beginning)], lambda state: steps_from(road, style, state, road.picks), self.MOST, "standing")
         self._states = tuple(list(self._numbers))
+        self._endings = {}
 
     def __len__(self):
         return len(self._states)
@@ -70,17 +58,13 @@ class Outlook:
 
     def way(self, n):
         """The least reading that leads to a state."""
-        at = self._checked(n)
-        reading = []
-        while at != 0:
-            at, word, pick = self._arrivals[at]
-            reading.append((word, pick))
-        return tuple(reading[::-1])
+        return tuple([step[:2] for step in arrived(self._follows, self._arrivals, self._checked(n))])
 
     def ending(self, n):
         """What is said at the end in a state, None if its room is no end."""
-        room, standing = self._states[self._checked(n)]
-        return self.road.finish(standing) if self.style.is_end(room) else None
+        if self._checked(n) not in self._endings:
+            self._endings[n] = ending_of(self.road, self.style, self._states[n])
+        return self._endings[n]
 
     def place_of(self, state):
         """The number of a state, None if it is none."""

@@ -102,6 +102,9 @@ class Form(unittest.TestCase):
                 if isinstance(node, ast.ImportFrom):
                     self.assertFalse(seen_other, name)
                     self.assertEqual(node.level, 0)
+                    if node.module == "math":
+                        self.assertEqual([(alias.name, alias.asname) for alias in node.names], [("gcd", None)])
+                        continue
                     self.assertRegex(node.module, r"^keptacross\.[a-z]+$")
                     theirs = TREES[node.module.partition(".")[2] + ".py"]
                     own = [part.name for part in theirs.body if isinstance(part, (ast.FunctionDef, ast.ClassDef))]
@@ -123,6 +126,7 @@ class Form(unittest.TestCase):
             for node in tree.body:
                 if isinstance(node, ast.ImportFrom):
                     self.assertLessEqual({alias.name for alias in node.names}, read, name)
+                if isinstance(node, ast.ImportFrom) and node.module != "math":
                     ahead[name].add(node.module.partition(".")[2] + ".py")
         while ahead:
             free = [name for name, others in ahead.items() if not others & set(ahead)]
@@ -160,7 +164,7 @@ class Form(unittest.TestCase):
         for name, node in NODES:
             if isinstance(node, ast.FunctionDef):
                 holder = PARENTS[name][node]
-                self.assertIsInstance(holder, (ast.Module, ast.ClassDef), node.name)
+                self.assertIsInstance(holder, (ast.Module, ast.ClassDef, ast.FunctionDef), node.name)
                 for word in node.decorator_list:
                     self.assertIn(word.id, ("property", "classmethod"))
                     self.assertIsInstance(holder, ast.ClassDef)
@@ -290,7 +294,8 @@ class Form(unittest.TestCase):
                 and not (isinstance(PARENTS[name][node], ast.Call) and PARENTS[name][node].func is node)}
         values = {part.targets[0].id for _, node in NODES if isinstance(node, ast.ClassDef)
                   for part in node.body if isinstance(part, ast.Assign)}
-        self.assertEqual(read - STORED - decorated("property") - values, set())
+        kept_as_values = {word for word in plain if not word.startswith("__") and word not in METHODS}
+        self.assertEqual(read - STORED - decorated("property") - values - kept_as_values, set())
 
     def test_classes_are_not_values(self):
         found = []

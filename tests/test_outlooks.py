@@ -20,11 +20,26 @@ def first_ways(many):
     return Book(Tongue(tuple(LETTERS)), [Term(name, (name,), (("x",),), first=("f",)) for name in LETTERS[:many]])
 
 
+def prime_powers(many):
+    """The powers of different primes whose product is this number."""
+    powers, prime = [], 2
+    while many > 1:
+        power = 1
+        while many % prime == 0:
+            many, power = many // prime, power * prime
+        powers += [power] if power > 1 else []
+        prime += 1
+    return powers
+
+
 def counter(many):
     """A book with one word, of which the turn that waits goes through so many maps."""
-    ring = [chr(97 + k // 26) + chr(97 + k % 26) for k in range(many)]
-    ring_map = WordMap.of(tuple(zip(ring, ring[1:] + ring[:1])))
-    return Book(Tongue(("a",)), (Term("t", ("a",), ((),), turn="k"),), turns=(("k", ring_map),))
+    pairs = []
+    for length in prime_powers(many):
+        ring = [chr(97 + len(pairs) // 26 % 26) + chr(97 + (len(pairs) + k) // 26) + chr(97 + (len(pairs) + k) % 26)
+                for k in range(length)]
+        pairs += zip(ring, ring[1:] + ring[:1])
+    return Book(Tongue(("a",)), (Term("t", ("a",), ((),), turn="k"),), turns=(("k", WordMap.of(pairs)),))
 
 
 def gone_through(road, style):

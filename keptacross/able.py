@@ -2,7 +2,7 @@
 
 from keptacross.judging import is_last, is_road_standing, is_room_of, is_tuple_of, judged
 from keptacross.keeping import last_behind
-from keptacross.roads import said_at_the_end, said_by_all
+from keptacross.roads import Carrier
 from keptacross.rows import is_row, kept
 from keptacross.search import arrived, explored
 from keptacross.styles import meet
@@ -14,7 +14,8 @@ class Tips:
     """The tips of a road, as they are found; each leads to others without breaking the rules."""
 
     def __init__(self, road, rules):
-        self._road = road
+        self._carrier = Carrier(road.books)
+        self._many = road.picks
         self._rules = rules
         self._numbers = {}
         self._tips = []
@@ -33,8 +34,8 @@ class Tips:
         if (number, word) not in self._behind:
             standing, last = self._tips[number]
             found = []
-            for pick in range(self._road.picks):
-                said, ahead = said_by_all(self._road.books, standing, word, pick)
+            for pick in range(self._many):
+                said, ahead = self._carrier.hear(standing, word, pick)
                 if not self._rules.breaks(last, said):
                     found.append(self.number_of((ahead, last_behind(last, said))))
             self._behind[(number, word)] = sorted(set(found))
@@ -48,7 +49,7 @@ class Tips:
         """Whether the text can end with a tip without breaking the rules."""
         if number not in self._ends:
             standing, last = self._tips[number]
-            self._ends[number] = not self._rules.breaks(last, said_at_the_end(self._road.books, standing))
+            self._ends[number] = not self._rules.breaks(last, self._carrier.finish(standing))
         return self._ends[number]
 
     def told(self, lot):

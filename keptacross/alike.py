@@ -1,7 +1,7 @@
 """Roads that are alike in a style."""
 
 from keptacross.judging import is_owed, is_road_standing, is_room_of, is_tuple_of, judged
-from keptacross.outlooks import ending_of, steps_from
+from keptacross.outlooks import Walk
 from keptacross.owing import NOTHING, compared, owed_behind, paired
 from keptacross.rows import kept
 from keptacross.styles import meet
@@ -59,28 +59,30 @@ def checked_row(thing, first, second, style):
     return kept(thing) if is_road_standing(thing[1], first) and is_road_standing(thing[2], second) else None
 
 
-def steps_from_row(first, second, style, row):
-    """The steps from a row: the row behind each; what is owed there is None if the pages part."""
+def steps_from_row(left, right, row):
+    """The rows behind a row, by the walks of both roads; where the pages part, None is owed."""
     room, one, other, owed = row
-    many = max(first.picks, second.picks)
-    steps = []
-    for (_, _, said, (leads, ahead)), (_, _, told, (_, behind)) in zip(steps_from(first, style, (room, one), many),
-                                                                      steps_from(second, style, (room, other), many)):
-        steps.append((leads, ahead, behind, owed_behind(owed, said, told)))
-    return steps
+    rows = []
+    for step, other_step in zip(left.steps((room, one)), right.steps((room, other))):
+        leads, ahead = step[3]
+        rows.append((leads, ahead, other_step[3][1], owed_behind(owed, step[2], other_step[2])))
+    return rows
 
 
 def judge_alike(first, second, style, table):
     """None if a table of what is owed is closed, otherwise the number of its first wrong row, or -1."""
     meet(first.books[0].tongue, style)
     meet(second.books[0].tongue, style)
+    many = max(first.picks, second.picks)
+    left = Walk(first, style, many)
+    right = Walk(second, style, many)
 
     def holds(row, there):
-        said = ending_of(first, style, (row[0], row[1]))
-        told = ending_of(second, style, (row[0], row[2]))
-        if said is not None and owed_behind(row[3], said, told) != NOTHING:
+        room, one, other, owed = row
+        said = left.end((room, one))
+        if said is not None and owed_behind(owed, said, right.end((room, other))) != NOTHING:
             return False
-        return all([step in there for step in steps_from_row(first, second, style, row)])
+        return all([behind in there for behind in steps_from_row(left, right, row)])
 
     start = (0, first.beginning, second.beginning, NOTHING)
     return judged(table, lambda thing: checked_row(thing, first, second, style), [start], holds)

@@ -3,7 +3,7 @@
 from keptacross.errors import BadSight, NoPlace
 from keptacross.judging import is_last, is_road_standing, is_room_of, is_tuple_of, judged
 from keptacross.keeping import last_behind
-from keptacross.roads import said_at_the_end, said_by_all
+from keptacross.roads import Carrier
 from keptacross.rows import is_below, is_plain, is_row, kept
 from keptacross.search import explored
 from keptacross.styles import meet
@@ -11,7 +11,7 @@ from keptacross.words import is_word
 
 MOST_POSITIONS = 1000
 END = ""
-LAST_WINDOW = (END,)
+LAST_WINDOW = ("",)
 
 
 def windows_behind(style, room, window):
@@ -38,9 +38,10 @@ class Speech:
         if not is_below(sight, 3):
             raise BadSight(sight)
         meet(road.books[0].tongue, style)
-        self.road = road
-        self.rules = rules
-        self.style = style
+        self.many = road.picks
+        self._carrier = Carrier(road.books)
+        self._rules = rules
+        self._style = style
         self.firsts = tuple([(room, road.beginning, "", window) for room, window in first_windows(style, sight)])
 
     def outcomes(self, position, pick):
@@ -50,14 +51,14 @@ class Speech:
         whether the rules are lost.
         """
         room, standing, last, window = position
-        said, ahead = said_by_all(self.road.books, standing, window[0], pick)
-        if self.rules.breaks(last, said):
+        said, ahead = self._carrier.hear(standing, window[0], pick)
+        if self._rules.breaks(last, said):
             return None
         last = last_behind(last, said)
         found = []
-        for leads, entries in windows_behind(self.style, room, window[1:]):
+        for leads, entries in windows_behind(self._style, room, window[1:]):
             if entries == LAST_WINDOW:
-                found.append((entries, self.rules.breaks(last, said_at_the_end(self.road.books, ahead))))
+                found.append((entries, self._rules.breaks(last, self._carrier.finish(ahead))))
             else:
                 found.append((entries, (leads, ahead, last, entries)))
         return found
@@ -65,7 +66,7 @@ class Speech:
     def steps(self, position):
         """The steps from a position: the pick, the window, and the position that follows."""
         found = []
-        for pick in range(self.road.picks):
+        for pick in range(self.many):
             outcomes = self.outcomes(position, pick)
             if outcomes is not None:
                 found.extend([(pick, entries, behind) for entries, behind in outcomes if is_row(behind)])
@@ -89,7 +90,7 @@ def values_of(speech, positions, follows):
 
     Each pick of a position is lost when a position that can follow is; a position is when its last pick is.
     """
-    many = speech.road.picks
+    many = speech.many
     behind = [[] for _ in follows]
     for number, follow in enumerate(follows):
         for pick, _, ahead in follow:
@@ -140,7 +141,7 @@ class AtOnce:
     def pick_for(self, position):
         """The least pick that keeps to safe positions, None if the position is not safe."""
         place = self._checked(position)
-        for pick in range(self._speech.road.picks):
+        for pick in range(self._speech.many):
             if self._speech.is_kept(place, pick, self._safe):
                 return pick
         return None
@@ -155,7 +156,7 @@ class AtOnce:
         """The window with which the rules are lost soonest, None if no choice makes them surely lost."""
         place = self._checked(position)
         # A pick that the road does not have makes no other page than the one that is left of it.
-        outcomes = self._speech.outcomes(place, int(pick) % self._speech.road.picks)
+        outcomes = self._speech.outcomes(place, int(pick) % self._speech.many)
         if outcomes is None:
             return None
         best = None

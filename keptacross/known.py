@@ -1,7 +1,7 @@
 """Whether a road knows a want: whether each page alone tells what is wanted of its text."""
 
 from keptacross.owing import NOTHING, moved
-from keptacross.roads import said_at_the_end, said_by_all
+from keptacross.roads import Carrier
 from keptacross.search import explored, reaching
 from keptacross.styles import meet
 from keptacross.wants import check_want, meet_want
@@ -11,24 +11,32 @@ MOST_ROWS = 2000
 ENDED = -1
 
 
-def steps_of_side(road, want, style, side):
-    """The steps from a side: word, pick, what is said, what is wanted, and the side behind it."""
-    room, standing, wanting = side
-    steps = []
-    for word, leads in style.let(room):
-        due, behind = want.hear(wanting, word)
-        for pick in range(road.picks):
-            said, ahead = said_by_all(road.books, standing, word, pick)
-            steps.append((word, pick, said, due, (leads, ahead, behind)))
-    return steps
+class SideWalk:
+    """The steps from sides of a road, a want and a style. Standings are tuples throughout here."""
 
+    def __init__(self, road, want, style):
+        self._carrier = Carrier(road.books)
+        self._many = road.picks
+        self._want = want
+        self._style = style
 
-def end_of_side(road, want, style, side):
-    """What is said and what is wanted at the end, None if the text cannot end there."""
-    room, standing, wanting = side
-    if not style.is_end(room):
-        return None
-    return said_at_the_end(road.books, standing), want.finish(wanting)
+    def steps(self, side):
+        """The steps from a side: word, pick, what is said, what is wanted, and the side behind it."""
+        room, standing, wanting = side
+        found = []
+        for word, leads in self._style.let(room):
+            due, behind = self._want.hear(wanting, word)
+            for pick in range(self._many):
+                said, ahead = self._carrier.hear(standing, word, pick)
+                found.append((word, pick, said, due, (leads, ahead, behind)))
+        return found
+
+    def end(self, side):
+        """What is said and what is wanted at the end, None if the text cannot end there."""
+        room, standing, wanting = side
+        if not self._style.is_end(room):
+            return None
+        return self._carrier.finish(standing), self._want.finish(wanting)
 
 
 def moves_of(follow, end):
@@ -48,11 +56,10 @@ class Sides:
     """The sides that can come, and their moves."""
 
     def __init__(self, road, want, style):
-        numbers, follows, _ = explored([(0, road.beginning, want.beginning)],
-                                       lambda side: steps_of_side(road, want, style, side), MOST_SIDES, "standing")
+        walk = SideWalk(road, want, style)
+        numbers, follows, _ = explored([(0, road.beginning, want.beginning)], walk.steps, MOST_SIDES, "standing")
         self._sides = list(numbers)
-        self._moves = [moves_of(follow, end_of_side(road, want, style, side))
-                       for side, follow in zip(self._sides, follows)]
+        self._moves = [moves_of(follow, walk.end(side)) for side, follow in zip(self._sides, follows)]
 
     def told(self, number):
         """The side with a number, the empty tuple if it has ended."""

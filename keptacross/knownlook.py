@@ -1,7 +1,7 @@
 """Tables that show that a road knows a want: whether they are right in themselves."""
 
 from keptacross.judging import is_owed, is_road_standing, is_room_of, is_tuple_of
-from keptacross.known import end_of_side, steps_of_side
+from keptacross.known import SideWalk
 from keptacross.owing import NOTHING, moved
 from keptacross.roads import Road
 from keptacross.rows import is_plain, is_row, kept
@@ -30,6 +30,7 @@ class RowJudge:
         self._road = road
         self._want = want
         self._style = style
+        self._walk = SideWalk(road, want, style)
         self._moves = {}
         self.rows = [self._checked(thing) for thing in table]
         self._dues = {}
@@ -55,9 +56,8 @@ class RowJudge:
         if side not in self._moves:
             found = []
             if side != ():
-                steps = steps_of_side(self._road, self._want, self._style, side)
-                found = [(said, due, ahead) for _, _, said, due, ahead in steps]
-                end = end_of_side(self._road, self._want, self._style, side)
+                found = [(said, due, ahead) for _, _, said, due, ahead in self._walk.steps(side)]
+                end = self._walk.end(side)
                 if end is not None:
                     found.append((*end, ()))
             self._moves[side] = found

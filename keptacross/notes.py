@@ -75,7 +75,7 @@ class Notes:
         return iter(self._least)
 
     def __bool__(self):
-        return len(self._least) > 0
+        return bool(len(self._least) > 0)
 
     def __contains__(self, lot):
         return is_row(lot) and kept(lot) in self._curing

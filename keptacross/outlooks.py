@@ -1,26 +1,33 @@
 """Outlooks: all that can come when texts of a style are carried along a road."""
 
 from keptacross.errors import NoState
-from keptacross.roads import said_at_the_end, said_by_all
+from keptacross.roads import Carrier
 from keptacross.rows import is_below, is_plain, kept
 from keptacross.search import arrived, explored
 from keptacross.styles import meet
 
 
-def steps_from(road, style, state, many):
-    """The steps from a state, with so many picks: word, pick, what is said, and the state behind it."""
-    room, standing = state
-    steps = []
-    for word, leads in style.let(room):
-        for pick in range(many):
-            said, behind = said_by_all(road.books, standing, word, pick)
-            steps.append((word, pick, said, (leads, behind)))
-    return steps
+class Walk:
+    """The steps from states of a road and a style, with so many picks. Standings are tuples throughout here."""
 
+    def __init__(self, road, style, many):
+        self._carrier = Carrier(road.books)
+        self._style = style
+        self._many = many
 
-def ending_of(road, style, state):
-    """What is said at the end in a state if its room is an end, otherwise None."""
-    return said_at_the_end(road.books, state[1]) if style.is_end(state[0]) else None
+    def steps(self, state):
+        """The steps from a state: word, pick, what is said, and the state behind it."""
+        room, standing = state
+        found = []
+        for word, leads in self._style.let(room):
+            for pick in range(self._many):
+                said, behind = self._carrier.hear(standing, word, pick)
+                found.append((word, pick, said, (leads, behind)))
+        return found
+
+    def end(self, state):
+        """What is said at the end in a state if its room is an end, otherwise None."""
+        return self._carrier.finish(state[1]) if self._style.is_end(state[0]) else None
 
 
 class Outlook:
@@ -32,8 +39,9 @@ class Outlook:
         meet(road.books[0].tongue, style)
         self.road = road
         self.style = style
+        self._walk = Walk(road, style, road.picks)
         self._numbers, self._follows, self._arrivals = explored(
-            [(0, road.beginning)], lambda state: steps_from(road, style, state, road.picks), self.MOST, "standing")
+            [(0, road.beginning)], self._walk.steps, self.MOST, "standing")
         self._states = tuple(list(self._numbers))
         self._endings = {}
 
@@ -63,7 +71,7 @@ class Outlook:
     def ending(self, n):
         """What is said at the end in a state, None if its room is no end."""
         if self._checked(n) not in self._endings:
-            self._endings[n] = ending_of(self.road, self.style, self._states[n])
+            self._endings[n] = self._walk.end(self._states[n])
         return self._endings[n]
 
     def place_of(self, state):

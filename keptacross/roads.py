@@ -15,24 +15,40 @@ def hand_on(book, standing, tokens):
     return tuple(page), standing
 
 
-def said_by_all(books, standings, word, pick):
-    """What the last of some books says when a word comes to the first one, and their next standings."""
-    _, said, first = go_on(books[0], standings[0], word, pick)
-    behind = [first]
-    for place in range(1, len(books)):
-        said, standing = hand_on(books[place], standings[place], said)
-        behind.append(standing)
-    return said, tuple(behind)
+class Carrier:
+    """Carries words along some books. It remembers what the books behind the first one have made of tokens.
 
+    Standings are tuples throughout here.
+    """
 
-def said_at_the_end(books, standings):
-    """What the last of some books says at the end of the text."""
-    said = ()
-    for place, book in enumerate(books):
-        # What the book ahead has held back comes to this one first, and then its own end.
-        said, standing = hand_on(book, standings[place], said)
-        said = said + finish(book, standing)[1]
-    return said
+    def __init__(self, books):
+        self._books = books
+        self._handed = {}
+
+    def _hand_on(self, place, standing, tokens):
+        """What the book at a place says for tokens that come from the one ahead of it, and its next standing."""
+        key = (place, standing, tokens)
+        if key not in self._handed:
+            self._handed[key] = hand_on(self._books[place], standing, tokens)
+        return self._handed[key]
+
+    def hear(self, standings, word, pick):
+        """What the last book says when a word comes to the first one, and the next standings."""
+        _, said, first = go_on(self._books[0], standings[0], word, pick)
+        behind = [first]
+        for place in range(1, len(self._books)):
+            said, standing = self._hand_on(place, standings[place], said)
+            behind.append(standing)
+        return said, tuple(behind)
+
+    def finish(self, standings):
+        """What the last book says at the end of the text."""
+        said = ()
+        for place, standing in enumerate(standings):
+            # What the book ahead has held back comes to this one first, and then its own end.
+            said, behind = self._hand_on(place, standing, said)
+            said = said + finish(self._books[place], behind)[1]
+        return said
 
 
 class Road:
@@ -62,12 +78,13 @@ class Road:
     def __call__(self, reading):
         """The page of a reading."""
         reading = checked_reading(self.books[0].tongue, reading)
+        carrier = Carrier(self.books)
         standings = self.beginning
         page = []
         for word, pick in reading:
-            said, standings = said_by_all(self.books, standings, word, pick)
+            said, standings = carrier.hear(standings, word, pick)
             page.extend(said)
-        return tuple(page) + said_at_the_end(self.books, standings)
+        return tuple(page) + carrier.finish(standings)
 
     @property
     def picks(self):
@@ -81,8 +98,8 @@ class Road:
 
     def hear(self, standing, word, pick=0):
         """What is said when a word comes, and the next standing."""
-        return said_by_all(self.books, kept(standing), word, pick)
+        return Carrier(self.books).hear(kept(standing), word, pick)
 
     def finish(self, standing):
         """What is said at the end of the text."""
-        return said_at_the_end(self.books, kept(standing))
+        return Carrier(self.books).finish(kept(standing))

@@ -14,8 +14,9 @@ def explored(starts, steps_from, most, word):
     arrivals = [None] * len(nodes)
     follows = []
     while len(follows) < len(nodes):
+        here = nodes[len(follows)]
         follow = []
-        for step in steps_from(nodes[len(follows)]):
+        for step in steps_from(here):
             node = step[-1]
             if node not in numbers:
                 if len(nodes) >= most:

@@ -23,4 +23,4 @@ class Sources:
         return iter(self.graph)
 
     def __bool__(self):
-        return len(self.graph) > 0
+        return bool(len(self.graph) > 0)

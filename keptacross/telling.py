@@ -7,7 +7,7 @@ from keptacross.wants import check_want, meet_want
 
 
 def wanted_so_far(walk):
-    """What has been wanted behind all readings that lead to each live node; None if it is not the same for some node."""
+    """What has been wanted behind all readings that lead to each live node; None if it is not one thing for each."""
     rows = [None] * len(walk.nodes)
     rows[0] = ()
     for number, follow in enumerate(walk.follows):

@@ -1,15 +1,13 @@
 """The states of a road and a style, as far as they are asked for: nothing bounds their number."""
 
-from keptacross.outlooks import ending_of, steps_from
+from keptacross.outlooks import Walk
 
 
 class Unfolding:
     """States that are numbered when they are found, with so many picks; told as an outlook tells them."""
 
     def __init__(self, road, style, many):
-        self._road = road
-        self._style = style
-        self._many = many
+        self._walk = Walk(road, style, many)
         self._states = [(0, road.beginning)]
         self._numbers = {self._states[0]: 0}
         self._follows = {}
@@ -23,7 +21,7 @@ class Unfolding:
         """The steps from a state: word, pick, what is said, and the number of the state behind it."""
         if n not in self._follows:
             found = []
-            for word, pick, said, state in steps_from(self._road, self._style, self._states[n], self._many):
+            for word, pick, said, state in self._walk.steps(self._states[n]):
                 if state not in self._numbers:
                     self._numbers[state] = len(self._states)
                     self._states.append(state)
@@ -34,5 +32,5 @@ class Unfolding:
     def ending(self, n):
         """What is said at the end in a state, None if its room is no end."""
         if n not in self._endings:
-            self._endings[n] = ending_of(self._road, self._style, self._states[n])
+            self._endings[n] = self._walk.end(self._states[n])
         return self._endings[n]

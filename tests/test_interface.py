@@ -16,6 +16,22 @@ NAMES = {
     "turners": ["judge_turners(turns, table)"],
     "turnwords": ["led(turners, word, other)", "gathered(turners, words)", "surely_gathered(turners, words)"],
     "turnback": ["undone(turners, row, words)", "ring(turners, row)", "spare(turners)"],
+    "pieces": ["pieces(book, reading)", "holding(book, text, place)"],
+    "uses": ["judge_use(book, style, name, table)"],
+    "fights": ["fights(book, style)"],
+    "growth": ["judge_heights(road, style, rate, heights)"],
+    "keeping": ["judge_keeping(road, rules, style, table)"],
+    "able": ["judge_able(road, rules, style, table)"],
+    "atonce": ["judge_at_once(road, rules, style, sight, positions)", "least_sight(road, rules, style)"],
+    "alike": ["judge_alike(first, second, style, table)"],
+    "begun": ["classes(outlook)"],
+    "needless": ["book_without(book, name)", "needless(book, style)", "lean(book, style)"],
+    "scopes": ["scopes_of(tongue)", "with_scope(book, name, scope)", "same_scopes(book, style, name)",
+               "exchangeable(book, style)"],
+    "wants": ["is_want(thing)", "wanted(want, text)"],
+    "knownlook": ["judge_known(road, want, style, table)"],
+    "notes": ["noted(book, lot)"],
+    "telling": ["told_by(road, page, want, style)"],
 }
 
 CLASSES = {
@@ -38,11 +54,28 @@ CLASSES = {
                               "place_of(self, state)"],
     ("turners", "Turners"): ["__init__(self, turns)", "__call__(self, row)", "along(self, row)",
                              "place_of(self, word_map)", "__len__(self)", "__iter__(self)"],
+    ("uses", "Use"): ["__init__(self, book, style, name)", "__bool__(self)"],
+    ("fights", "Fight"): ["__init__(self, book, style, one, other)", "__bool__(self)"],
+    ("growth", "Growth"): ["__init__(self, road, style)", "__eq__(self, other)"],
+    ("rules", "Rules"): ["__init__(self, rows)", "__len__(self)", "__iter__(self)", "__eq__(self, other)",
+                         "broken(self, page)", "covers(self, other)", "__add__(self, other)"],
+    ("keeping", "Keeping"): ["__init__(self, road, rules, style)", "__bool__(self)"],
+    ("able", "Able"): ["__init__(self, road, rules, style)", "__bool__(self)"],
+    ("atonce", "AtOnce"): ["__init__(self, road, rules, style, *, sight=0)", "__bool__(self)",
+                           "pick_for(self, position)", "answer(self, position, pick)"],
+    ("alike", "Alike"): ["__init__(self, first, second, style)", "__bool__(self)", "__len__(self)", "__iter__(self)"],
+    ("begun", "Begun"): ["__init__(self, outlook, first, second)", "__bool__(self)"],
+    ("wants", "Words"): ["__init__(self, lot)", "__len__(self)", "__iter__(self)", "__contains__(self, word)",
+                         "__eq__(self, other)", "hear(self, standing, word, pick=0)", "finish(self, standing)"],
+    ("known", "Known"): ["__init__(self, road, want, style)", "__bool__(self)", "__len__(self)", "__iter__(self)"],
+    ("notes", "Notes"): ["__init__(self, book, want, style)", "__bool__(self)", "__len__(self)", "__iter__(self)",
+                         "__contains__(self, lot)"],
+    ("sources", "Sources"): ["__init__(self, road, page, style)", "__bool__(self)", "__len__(self)", "__iter__(self)"],
 }
 
 PROPERTIES = {
     ("styles", "Style"): ["vocabulary"], ("terms", "Term"): ["gap"], ("books", "Book"): ["names", "picks"],
-    ("roads", "Road"): ["picks", "beginning"], ("turners", "Turners"): ["names"],
+    ("roads", "Road"): ["picks", "beginning"], ("turners", "Turners"): ["names"], ("wants", "Words"): ["beginning"],
 }
 
 

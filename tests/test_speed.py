@@ -3,19 +3,37 @@
 import time
 import unittest
 
+from keptacross.able import Able
+from keptacross.alike import Alike
+from keptacross.atonce import AtOnce, least_sight
+from keptacross.begun import classes
 from keptacross.books import Book
 from keptacross.booktext import read_book, write_book
 from keptacross.carrying import carried
-from keptacross.errors import TooMany
+from keptacross.errors import TooMany, Unsettled
+from keptacross.growth import Growth
+from keptacross.keeping import Keeping
+from keptacross.known import Known
+from keptacross.knownlook import judge_known
+from keptacross.needless import lean, needless
+from keptacross.notes import Notes
 from keptacross.outlooks import Outlook
 from keptacross.roads import Road
+from keptacross.rules import Rules
+from keptacross.scopes import same_scopes
+from keptacross.sources import Sources
 from keptacross.styles import Style
+from keptacross.telling import told_by
 from keptacross.terms import Term
 from keptacross.tongues import Tongue
 from keptacross.turnback import ring, spare, undone
 from keptacross.turners import Turners, judge_turners
 from keptacross.turnwords import gathered, led, surely_gathered
+from keptacross.wants import Words
 from keptacross.wordmaps import WordMap
+from test_begun import wide_outlook
+from test_outlooks import counter, first_ways
+from test_wants_known import two_rings
 
 WORDS = tuple("abcdefgh")
 LONG = [chr(97 + k // 26) + chr(97 + k % 26) for k in range(600)]
@@ -35,6 +53,14 @@ def growing_book():
     """A book that says six words for each."""
     terms = [Term("t" + word, (word,), (WORDS[:6],) * 3) for word in WORDS]
     return Book(Tongue(WORDS), terms)
+
+
+def ringing_book(states):
+    """A book that is silent for a, whose turn then goes through so many maps, and says six words for each other one."""
+    ring = counter(states)
+    ways = (WORDS[:6], WORDS[1:7], WORDS[2:])
+    return Book(Tongue(WORDS), ring.terms + tuple(Term("t" + word + "x", (word,), ways) for word in WORDS[1:]),
+                turns=ring.turns)
 
 
 class Speed(unittest.TestCase):
@@ -86,6 +112,71 @@ class Speed(unittest.TestCase):
         self.assertIsNotNone(undone(turners, ("k", "l") * 1000, words))
         self.assertEqual(led(turners, words[0], words[299]), turners.table[turners.place_of(
             WordMap.of(tuple(zip(words, words[299:] + words[:299]))))][1])
+
+    def test_growth_and_keeping_of_300_states(self):
+        style = Style.free(WORDS)
+        road = Road(ringing_book(300), growing_book(), growing_book())
+        self.assertEqual(Growth(road, style).rate, (216, 1))
+        self.assertEqual(len(Keeping(road, Rules((("z",),)), Style.free(("a",))).table), 300)
+        self.assertEqual(len(Able(road, Rules((("z",),)), Style.free(("a",))).table), 300)
+
+    def test_able_with_many_tips(self):
+        ways = [((WORDS[k],), (WORDS[(k + 1) % 8],), (WORDS[(k + 3) % 8],)) for k in range(8)]
+        split = Book(Tongue(WORDS), [Term("t" + word, (word,), ways[k]) for k, word in enumerate(WORDS)])
+        used = Book(Tongue(WORDS), [Term("t" + word, (word,), ((word,),), first=("*n", word)) for word in WORDS])
+        with self.assertRaises(TooMany):
+            Able(Road(split, used, used), Rules((("z",),)), Style.free(WORDS))
+
+    def test_a_hand_at_once_with_1000_positions(self):
+        road = Road(ringing_book(1000))
+        game = AtOnce(road, Rules((("z",),)), Style.free(("a",)))
+        self.assertEqual(len(game.table), 1000)
+        self.assertTrue(all(game.pick_for(position) == 0 for position, _ in game.table))
+        with self.assertRaises(TooMany):
+            AtOnce(Road(ringing_book(40), growing_book(), growing_book()), Rules((("z",),)), Style.free(WORDS), sight=2)
+        self.assertIsNone(least_sight(Road(growing_book(), growing_book()), Rules((("b", "c"),)), Style.free(WORDS)))
+
+    def test_roads_of_three_books_with_1000_pairs(self):
+        style = Style.free(WORDS)
+        first = Road(ringing_book(1000), growing_book(), growing_book())
+        second = Road(ringing_book(125), growing_book(), growing_book())
+        self.assertEqual(len(Alike(first, second, style)), 1000)
+        self.assertEqual(len(Alike(first, first, style)), 1000)
+
+    def test_lean_books_with_1000_pairs(self):
+        book = wide_outlook(turning=False)[0].road.books[0]
+        style = Style.free(book.tongue.words)
+        self.assertEqual((needless(book, style), len(lean(book, style))), (book.names, 0))
+        self.assertEqual(len(same_scopes(book, style, "ta")), 11)
+        ring = ringing_book(1000)
+        self.assertEqual(lean(ring, Style.free(WORDS)), ring)
+
+    def test_classes(self):
+        self.assertEqual(len(set(classes(Outlook(Road(first_ways(8)), Style.free(WORDS))))), 256)
+        self.assertEqual(len(set(classes(Outlook(Road(counter(300)), Style.free(("a",)))))), 1)
+        outlook = Outlook(Road(ringing_book(300)), Style.free(WORDS))
+        self.assertEqual(len(set(classes(outlook))), 1)
+
+    def test_2000_rows_and_16_lots(self):
+        book = Book(Tongue(WORDS), [Term("t" + word, (word,), ((), ("x",), ("y",)), first=()) for word in WORDS[:4]])
+        style = Style.free(WORDS[:4])
+        for want in (Words(()), Words(WORDS[:2]), Road(growing_book())):
+            self.assertEqual(len(Notes(book, want, style).table), 16)
+        road, style = two_rings(42, 11)
+        known = Known(road, Words(()), style)
+        self.assertEqual(len(known), 2000)
+        self.assertIsNone(judge_known(road, Words(()), style, known.table))
+
+    def test_pages_of_60_tokens_and_600_nodes(self):
+        style = Style.free(WORDS[:4])
+        book = Book(Tongue(WORDS), [Term("t" + word, (word,), (("x",), ("y",), ("x", "y"))) for word in WORDS[:4]])
+        page = ("x", "y") * 30
+        self.assertEqual(len(Sources(Road(book), page, style)), 61)
+        self.assertEqual(told_by(Road(book), page, Words(()), style), ())
+        with self.assertRaises(Unsettled):
+            told_by(Road(book), page, Words(("a",)), style)
+        with self.assertRaises(TooMany):
+            told_by(Road(ringing_book(601)), (), Road(growing_book(), growing_book()), Style.free(WORDS))
 
     def test_long_lines(self):
         maps = WordMap.of(tuple(zip(LONG, LONG[1:] + LONG[:1])))

@@ -190,9 +190,10 @@ class Alikes(unittest.TestCase):
                     ask()
                 self.assertEqual(caught.exception.word, word)
         both = Road(Book(Tongue(("a", "p", "q"))))
-        with self.assertRaises(Foreign) as caught:
-            Alike(both, one, style)
-        self.assertEqual(caught.exception.word, "p")
+        for ask in (lambda: Alike(both, one, style), lambda: judge_alike(both, one, style, None)):
+            with self.assertRaises(Foreign) as caught:
+                ask()
+            self.assertEqual(caught.exception.word, "p")
 
 
 class Judging(unittest.TestCase):

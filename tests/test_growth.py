@@ -154,6 +154,9 @@ class Growths(unittest.TestCase):
         low = Growth(Road(two_and_none()), Style(((("a", 1),), (("b", 0), ("c", 0))), (0,)))
         high = Growth(Road(two_and_none()), Style(((("a", 1),), (("b", 0), ("c", 0))), (1,)))
         self.assertNotEqual(low, high)
+        turned = Growth(Road(two_and_none()), Style(((("b", 1), ("c", 1)), (("a", 0),)), (0,)))
+        self.assertEqual((turned.rate, turned.peak, turned.heights), (low.rate, low.peak, (0, -1)))
+        self.assertNotEqual(low, turned)
         self.assertIs(one == one.rate, False)
 
 

@@ -16,7 +16,8 @@ from keptacross.tongues import Tongue
 from test_outlooks import counter
 from test_rules import broken_plainly
 
-START = (0, (BEGINNING,), "")
+BEGUN = (BEGINNING,)
+START = (0, BEGUN, "")
 
 
 def breaks(rules, last, said):
@@ -280,6 +281,12 @@ class Ables(unittest.TestCase):
                 self.assertEqual(judge_able(road, rules, style, table), lots_closed(road, rules, style, table), table)
         self.assertGreater(judged, 500)
 
+    def test_a_row_without_tips_is_wrong_wherever_it_leads(self):
+        road, style = Road(letters((("x",),))), Style(((("a", 1),), (("a", 0),)), (0,))
+        table = ((0, ((BEGUN, ""),)), (1, ((BEGUN, "x"),)), (0, ((BEGUN, "x"),)))
+        self.assertIsNone(judge_able(road, Rules(()), style, table))
+        self.assertEqual(judge_able(road, Rules(()), style, table + ((1, ()), (0, ()))), 3)
+
     def test_judging_by_hand(self):
         road, style = Road(letters((("x",), ("y",)))), Style.free(("a",))
         rules = Rules((("x", "x"), ("y", "y")))
@@ -289,6 +296,8 @@ class Ables(unittest.TestCase):
         self.assertEqual(judge_able(road, rules, style, (first, (0, both[1][::-1]))), 0)
         self.assertEqual(judge_able(road, rules, style, (first, both, (0, both[1][:1]))), 2)
         self.assertEqual(judge_able(road, rules, style, (first, both, (0, ()))), 2)
+        for tip in [(5, "x"), (None, "x"), ("x", "x"), (both[1][0][0], None), both[1][0][0], both[1][0] + ("x",), "x"]:
+            self.assertEqual(judge_able(road, rules, style, (first, both, (0, (tip,)))), 2)
         self.assertEqual(judge_able(road, rules, style, (both,)), -1)
         self.assertEqual(judge_able(road, rules, style, (first,)), 0)
 

@@ -4,7 +4,7 @@ from keptacross.owing import NOTHING, moved
 from keptacross.roads import Carrier
 from keptacross.search import explored, reaching
 from keptacross.styles import meet
-from keptacross.wants import check_want, meet_want
+from keptacross.wants import check_want, hearer_of, meet_want
 
 MOST_SIDES = 300
 MOST_ROWS = 2000
@@ -17,7 +17,7 @@ class SideWalk:
     def __init__(self, road, want, style):
         self._carrier = Carrier(road.books)
         self._many = road.picks
-        self._want = want
+        self._hearer = hearer_of(want)
         self._style = style
 
     def steps(self, side):
@@ -25,7 +25,7 @@ class SideWalk:
         room, standing, wanting = side
         found = []
         for word, leads in self._style.let(room):
-            due, behind = self._want.hear(wanting, word)
+            due, behind = self._hearer.hear(wanting, word, 0)
             for pick in range(self._many):
                 said, ahead = self._carrier.hear(standing, word, pick)
                 found.append((word, pick, said, due, (leads, ahead, behind)))
@@ -36,7 +36,7 @@ class SideWalk:
         room, standing, wanting = side
         if not self._style.is_end(room):
             return None
-        return self._carrier.finish(standing), self._want.finish(wanting)
+        return self._carrier.finish(standing), self._hearer.finish(wanting)
 
 
 def moves_of(follow, end):

@@ -3,7 +3,7 @@
 from keptacross.carrying import plain_reading
 from keptacross.errors import BadLot, BadWant
 from keptacross.pieces import checked_text
-from keptacross.roads import Road
+from keptacross.roads import Carrier, Road
 from keptacross.rows import is_lot, kept
 from keptacross.styles import meet
 from keptacross.words import is_word
@@ -58,6 +58,11 @@ def meet_want(want, style):
     """Raises Foreign with the first word of the style that is none of the tongue of a want that is a road."""
     if isinstance(want, Road):
         meet(want.books[0].tongue, style)
+
+
+def hearer_of(want):
+    """What hears words for a want: the lot of words, or what carries along the road."""
+    return Carrier(want.books) if isinstance(want, Road) else want
 
 
 def wanted(want, text):

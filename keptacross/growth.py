@@ -27,7 +27,7 @@ def most_said(steps):
     rows = [[0] + [None] * (len(steps) - 1)]
     for _ in steps:
         row = [None] * len(steps)
-        for so_far, ahead in zip(rows[-1], steps):
+        for so_far, ahead in zip(list(rows[-1]), steps):
             if so_far is None:
                 continue
             for tokens, _, behind in ahead:

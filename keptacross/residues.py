@@ -16,8 +16,8 @@ def some_pages(outlook):
     # From each room some end is less than six words away.
     while None in pages:
         longer = list(pages)
-        for number, page in enumerate(pages):
-            if page is None:
+        for number in range(len(pages)):
+            if pages[number] is None:
                 ahead = [said + pages[behind] for _, _, said, behind in outlook.follow(number)
                          if pages[behind] is not None]
                 longer[number] = ahead[0] if len(ahead) > 0 else None
@@ -38,7 +38,7 @@ def said_in_any_case(outlook):
     waiting = {number: True for number in range(len(rows))}
     while len(waiting) > 0:
         cut = {}
-        for number in waiting:
+        for number in list(waiting):
             row = rows[number]
             ending = outlook.ending(number)
             if ending is not None:

@@ -8,6 +8,8 @@ import re
 import tokenize
 import unittest
 
+from loops import wrong_loops
+
 FOLDER = os.path.join(os.path.dirname(os.path.abspath(__file__)), "..", "keptacross")
 
 BUILTINS = """len range enumerate zip min max sum abs sorted reversed int str bool bytes list tuple dict set frozenset
@@ -269,6 +271,16 @@ class Form(unittest.TestCase):
                 if not loop and not (called(holder) in AT_ONCE and holder.args[0] is node):
                     found.append((name, node))
         self.bar("L23", found)
+
+    def test_no_loop_changes_what_it_walks(self):
+        for name, tree in TREES.items():
+            self.assertEqual(wrong_loops(tree), [], name)
+        for text in ("for x in xs:\n        xs.append(x)", "for k, x in enumerate(xs):\n        xs[k] = x",
+                     "ys = {}\n    for x in xs:\n        ys.update(x)\n    xs = ys", "zs = [xs]\n    ys = xs\n"
+                     "    for x in ys:\n        xs.pop()", "for x in xs[-1]:\n        ys[0] = x\n    xs.append(ys)"):
+            self.assertNotEqual(wrong_loops(ast.parse("def f(xs, ys):\n    " + text)), [], text)
+        for text in ("for x in list(xs):\n        xs.append(x)", "for x in xs:\n        ys.append(x)"):
+            self.assertEqual(wrong_loops(ast.parse("def f(xs, ys):\n    " + text)), [], text)
 
     def test_sets(self):
         found = []

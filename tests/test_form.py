@@ -157,10 +157,26 @@ class Form(unittest.TestCase):
     def test_kinds_of_statements(self):
         kinds = (ast.AsyncFunctionDef, ast.AsyncFor, ast.AsyncWith, ast.Await, ast.Global, ast.Nonlocal, ast.Import,
                  ast.GeneratorExp, ast.SetComp, ast.Set, ast.Div, ast.MatMult, ast.Pow, ast.Match, ast.With,
-                 ast.Delete, ast.AnnAssign, ast.NamedExpr, ast.Yield, ast.YieldFrom)
+                 ast.Delete, ast.AnnAssign, ast.NamedExpr, ast.YieldFrom)
         self.bar("L6, L7", [(name, node) for name, node in NODES if isinstance(node, kinds)])
         self.bar("L7", [(name, node) for name, node in NODES if isinstance(node, ast.Constant)
                         and isinstance(node.value, (float, complex, bytes))])
+
+    def test_generators(self):
+        yielding = [(name, node) for name, node in NODES if isinstance(node, ast.Yield)]
+        self.bar("L23", [(name, node) for name, node in yielding if not isinstance(PARENTS[name][node], ast.Expr)])
+        for name, node in yielding:
+            while not isinstance(node, FUNCTIONS):
+                node = PARENTS[name][node]
+                self.assertNotIsInstance(node, (ast.Try, ast.With), name)
+            self.assertNotIn(node.name, VALUES_OWN)
+            self.assertNotIn(node.name, SPECIAL)
+            self.assertEqual(node.decorator_list, [])
+            self.assertEqual([part.value for part in ast.walk(node) if isinstance(part, ast.Return) and part.value], [])
+            named = [other for _, other in NODES if isinstance(other, ast.FunctionDef) and other.name == node.name]
+            self.assertEqual(len(named), 1)
+            # Nothing in the package goes through it: callers do.
+            self.assertEqual([part for _, part in NODES if isinstance(part, ast.Attribute) and part.attr == node.name], [])
 
     def test_functions_and_classes(self):
         for name, node in NODES:
@@ -189,7 +205,8 @@ class Form(unittest.TestCase):
         for name, node in NODES:
             if isinstance(node, ast.FunctionDef) and node.name in ("__init__", "__len__", "__iter__"):
                 returns = [part.value for part in ast.walk(node) if isinstance(part, ast.Return)]
-                if node.name == "__init__":
+                barred = isinstance(node.body[-1], ast.Raise) and called(node.body[-1].exc) == "TypeError"
+                if node.name == "__init__" or node.name == "__iter__" and barred:
                     self.assertEqual(returns, [])
                 else:
                     self.assertEqual([called(value) for value in returns], ["len" if node.name == "__len__" else "iter"])
@@ -296,7 +313,7 @@ class Form(unittest.TestCase):
 
     def test_own_methods_and_attributes(self):
         self.assertEqual({word for word in OWN_METHODS if word in VALUES_OWN}, set())
-        self.assertEqual({word for word in STORED if word in VALUES_OWN}, set())
+        self.assertEqual({word for word in STORED if word in VALUES_OWN} - set(OWN_ATTRIBUTES), set())
         self.assertEqual(decorated("property") & STORED, set())
         self.assertEqual(decorated("classmethod") & STORED, set())
         plain = OWN_METHODS - decorated("property") - decorated("classmethod")

@@ -32,6 +32,11 @@ NAMES = {
     "knownlook": ["judge_known(road, want, style, table)"],
     "notes": ["noted(book, lot)"],
     "telling": ["told_by(road, page, want, style)"],
+    "questions": ["judge_plan(texts, want, plan)"],
+    "journeys": ["judge_journeys(web, house, table)"],
+    "together": ["judge_apart(web, house, one, other, table)", "left_out(web, house)"],
+    "rounds": ["keepers(web, house)", "spare_books(web)"],
+    "changes": ["is_change(thing)", "changed(book, change)", "changed_by(book, changes)"],
 }
 
 CLASSES = {
@@ -71,6 +76,19 @@ CLASSES = {
     ("notes", "Notes"): ["__init__(self, book, want, style)", "__bool__(self)", "__len__(self)", "__iter__(self)",
                          "__contains__(self, lot)"],
     ("sources", "Sources"): ["__init__(self, road, page, style)", "__bool__(self)", "__len__(self)", "__iter__(self)"],
+    ("sourcetexts", "SourceTexts"): ["__init__(self, road, page, style)", "__getitem__(self, n)",
+                                     "__contains__(self, text)", "upto(self, length)"],
+    ("sure", "Sure"): ["__init__(self, road, page, want, style)", "__bool__(self)"],
+    ("questions", "Questions"): ["__init__(self, road, page, want, style)", "settle(self, text)"],
+    ("webs", "Web"): ["__init__(self, houses, books=())", "__len__(self)", "__iter__(self)", "__contains__(self, name)",
+                      "__eq__(self, other)", "words_of(self, house)", "leaving(self, house)",
+                      "after(self, house, journey)"],
+    ("journeys", "Journeys"): ["__init__(self, web, house)", "__len__(self)", "__iter__(self)", "along(self, journey)",
+                               "place_of(self, house, images)"],
+    ("together", "Together"): ["__init__(self, web, house, one, other)", "__bool__(self)"],
+    ("rounds", "Round"): ["__init__(self, web, house, journey)", "fate(self, word)"],
+    ("shelves", "Shelf"): ["__init__(self, book, menu)", "__len__(self)", "__iter__(self)", "__getitem__(self, n)",
+                           "follow(self, n)", "way(self, n)", "after(self, row)", "place_of(self, book)"],
 }
 
 PROPERTIES = {

@@ -60,6 +60,17 @@ def decorated(word):
             for name in node.decorator_list if isinstance(name, ast.Name) and name.id == word}
 
 
+SETTERS = {node.name for _, node in NODES if isinstance(node, ast.FunctionDef)
+           for word in node.decorator_list if isinstance(word, ast.Attribute)}
+
+
+def made_here(function):
+    """The local names to which an operator gives new objects: it may set their attributes."""
+    return {part.targets[0].id for part in ast.walk(function) if isinstance(part, ast.Assign)
+            and isinstance(part.targets[0], ast.Name) and isinstance(part.value, ast.Call)
+            and isinstance(part.value.func, ast.Name) and part.value.func.id in OWN_CLASSES}
+
+
 def bound_at_module_level(tree):
     found = []
     for node in tree.body:
@@ -156,7 +167,7 @@ class Form(unittest.TestCase):
 
     def test_kinds_of_statements(self):
         kinds = (ast.AsyncFunctionDef, ast.AsyncFor, ast.AsyncWith, ast.Await, ast.Global, ast.Nonlocal, ast.Import,
-                 ast.GeneratorExp, ast.SetComp, ast.Set, ast.Div, ast.MatMult, ast.Pow, ast.Match, ast.With,
+                 ast.GeneratorExp, ast.SetComp, ast.Set, ast.Div, ast.MatMult, ast.Pow, ast.Match,
                  ast.Delete, ast.AnnAssign, ast.NamedExpr, ast.YieldFrom)
         self.bar("L6, L7", [(name, node) for name, node in NODES if isinstance(node, kinds)])
         self.bar("L7", [(name, node) for name, node in NODES if isinstance(node, ast.Constant)
@@ -184,7 +195,11 @@ class Form(unittest.TestCase):
                 holder = PARENTS[name][node]
                 self.assertIsInstance(holder, (ast.Module, ast.ClassDef, ast.FunctionDef), node.name)
                 for word in node.decorator_list:
-                    self.assertIn(word.id, ("property", "classmethod"))
+                    if isinstance(word, ast.Attribute):
+                        self.assertEqual((word.attr, word.value.id), ("setter", node.name))
+                        self.assertIn(node.name, decorated("property"))
+                    else:
+                        self.assertIn(word.id, ("property", "classmethod"))
                     self.assertIsInstance(holder, ast.ClassDef)
                 if node.name.startswith("__"):
                     self.assertIn(node.name, SPECIAL)
@@ -196,10 +211,24 @@ class Form(unittest.TestCase):
             if isinstance(node, ast.ClassDef):
                 self.assertIn(node, TREES[name].body)
                 self.assertEqual(node.decorator_list, [])
-                methods = [part.name for part in node.body if isinstance(part, ast.FunctionDef)]
+                methods = [part.name for part in node.body if isinstance(part, ast.FunctionDef)
+                           and not any(isinstance(word, ast.Attribute) for word in part.decorator_list)]
                 self.assertEqual(len(methods), len(set(methods)))
                 if "__getitem__" in methods:
                     self.assertIn("__iter__", methods)
+
+    def test_contexts(self):
+        for name, node in NODES:
+            if isinstance(node, ast.With):
+                self.assertTrue(all(called(item.context_expr) == "Trial" for item in node.items))
+            if isinstance(node, ast.FunctionDef) and node.name == "__exit__":
+                for row in node.body:
+                    self.assertIsInstance(row, ast.Assign)
+                    self.assertIsInstance(row.value, ast.Attribute)
+                    self.assertIsInstance(row.targets[0], (ast.Name, ast.Attribute))
+                told = [arg.arg for arg in node.args.args[1:]]
+                read = [part.id for part in ast.walk(node) if isinstance(part, ast.Name)]
+                self.assertEqual([word for word in told if word in read], [])
 
     def test_special_methods(self):
         for name, node in NODES:
@@ -210,11 +239,14 @@ class Form(unittest.TestCase):
                     self.assertEqual(returns, [])
                 else:
                     self.assertEqual([called(value) for value in returns], ["len" if node.name == "__len__" else "iter"])
-            if isinstance(node, ast.FunctionDef) and (node.name in SPECIAL[1:] and node.name != "__call__"
-                                                      or node.name in decorated("property")):
+            free = ("__call__", "__enter__", "__exit__")
+            if isinstance(node, ast.FunctionDef) and not any(isinstance(word, ast.Attribute) for word in node.decorator_list)\
+                    and (node.name in SPECIAL[1:] and node.name not in free or node.name in decorated("property")):
+                own = made_here(node)
                 self.bar("L5", [(name, part) for part in ast.walk(node)
                                 if isinstance(part, (ast.AugAssign, ast.Delete))
                                 or isinstance(part, ast.Attribute) and isinstance(part.ctx, ast.Store)
+                                and getattr(part.value, "id", None) not in own
                                 or isinstance(part, ast.Subscript) and isinstance(part.ctx, ast.Store)])
 
     def test_builtins(self):
@@ -314,7 +346,7 @@ class Form(unittest.TestCase):
     def test_own_methods_and_attributes(self):
         self.assertEqual({word for word in OWN_METHODS if word in VALUES_OWN}, set())
         self.assertEqual({word for word in STORED if word in VALUES_OWN} - set(OWN_ATTRIBUTES), set())
-        self.assertEqual(decorated("property") & STORED, set())
+        self.assertEqual(decorated("property") & STORED - SETTERS, set())
         self.assertEqual(decorated("classmethod") & STORED, set())
         plain = OWN_METHODS - decorated("property") - decorated("classmethod")
         self.assertEqual(plain & STORED, set())
@@ -324,7 +356,7 @@ class Form(unittest.TestCase):
         values = {part.targets[0].id for _, node in NODES if isinstance(node, ast.ClassDef)
                   for part in node.body if isinstance(part, ast.Assign)}
         kept_as_values = {word for word in plain if not word.startswith("__") and word not in METHODS}
-        self.assertEqual(read - STORED - decorated("property") - values - kept_as_values, set())
+        self.assertEqual(read - STORED - decorated("property") - values - kept_as_values - {"setter"}, set())
 
     def test_classes_are_not_values(self):
         found = []

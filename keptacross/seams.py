@@ -11,11 +11,27 @@ from keptacross.styles import meet
 START = (0, BEGINNING, BEGINNING)
 
 
+class Hearing:
+    """What a book says for words; what has been heard in a standing once is remembered."""
+
+    def __init__(self, book):
+        self.book = book
+        self._heard = {}
+
+    def hear(self, standing, word, pick):
+        """What is said when a word comes, and the next standing."""
+        key = (standing, word, pick)
+        if key not in self._heard:
+            self._heard[key] = go_on(self.book, standing, word, pick)[1:]
+        return self._heard[key]
+
+
 class SeamWalk:
     """The steps from triples of a room and the standings of the whole and of the hand whose piece it is."""
 
-    def __init__(self, book, style, lot, headings):
-        self._book = book
+    def __init__(self, hearing, style, lot, headings):
+        self._hearing = hearing
+        self._book = hearing.book
         self._style = style
         self._lot = lot
         self._headings = headings
@@ -38,9 +54,9 @@ class SeamWalk:
             if not self._headings or word in self._book.tongue.headings:
                 cuts.append((1, at_cut, begun))
             for pick in range(self._book.picks):
-                _, said, ahead = go_on(self._book, whole, word, pick)
+                said, ahead = self._hearing.hear(whole, word, pick)
                 for cut, before, standing in cuts:
-                    _, other, behind = go_on(self._book, standing, word, pick)
+                    other, behind = self._hearing.hear(standing, word, pick)
                     found.append(((word, pick, cut), said, before + other, (leads, ahead, behind)))
         return found
 
@@ -52,15 +68,20 @@ class SeamWalk:
         return finish(self._book, whole)[1], finish(self._book, apart)[1]
 
 
+def gone_along(walk):
+    """All triples that can come, and what is owed at each; or the least row of steps behind which pages are unlike."""
+    triples, follows = paired(START, walk.steps)
+    owed, row = compared(follows, [walk.end(triple) for triple in triples])
+    return triples, owed, row
+
+
 class Seams:
     """Whether a lot is enough: then the table of what is owed, otherwise the least row of steps that shows it."""
 
     def __init__(self, book, style, lot, *, headings=False):
         things = checked_lot(lot)
         meet(book.tongue, style)
-        walk = SeamWalk(book, style, things, headings)
-        triples, follows = paired(START, walk.steps)
-        owed, self.row = compared(follows, [walk.end(triple) for triple in triples])
+        triples, owed, self.row = gone_along(SeamWalk(Hearing(book), style, things, headings))
         self.table = None
         if self.row is None:
             self.table = tuple([(*triple, owing) for triple, owing in zip(triples, owed)])
@@ -72,10 +93,12 @@ class Seams:
 def least_lots(book, style, *, headings=False):
     """The least lots of things that are enough, in order."""
     meet(book.tongue, style)
+    hearing = Hearing(book)
     least = []
     for lot in lots_of(THINGS):
         if not any([all([thing in lot for thing in part]) for part in least]):
-            if Seams(book, style, lot, headings=headings):
+            _, _, row = gone_along(SeamWalk(hearing, style, lot, headings))
+            if row is None:
                 least.append(lot)
     return tuple(least)
 
@@ -91,7 +114,7 @@ def judge_seams(book, style, lot, table, *, headings=False):
     """None if a table of what is owed is closed, otherwise the number of its first wrong row, or -1."""
     things = checked_lot(lot)
     meet(book.tongue, style)
-    walk = SeamWalk(book, style, things, headings)
+    walk = SeamWalk(Hearing(book), style, things, headings)
 
     def holds(row, there):
         triple, owed = row[:3], row[3]

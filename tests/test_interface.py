@@ -37,6 +37,19 @@ NAMES = {
     "together": ["judge_apart(web, house, one, other, table)", "left_out(web, house)"],
     "rounds": ["keepers(web, house)", "spare_books(web)"],
     "changes": ["is_change(thing)", "changed(book, change)", "changed_by(book, changes)"],
+    "commuting": ["all_commute(shelf, style)"],
+    "renewals": ["renewed(shelf, style, page, row)"],
+    "detours": ["detour(renewals, n, m)", "lookings(renewals, n, m)", "leading_back(shelf, style)"],
+    "works": ["turned(old, new, reading)", "turned_chapters(old, new, chapters)"],
+    "handover": ["handed(book, standing, lot)", "taken(paper, lot)", "by_hands(book, chapters, lot)",
+                 "papers(book, style, lot)"],
+    "seams": ["least_lots(book, style, *, headings=False)",
+              "judge_seams(book, style, lot, table, *, headings=False)"],
+    "readers": ["gives(book, chapter, full)", "needs(book, chapter, full)",
+                "judge_readers(book, chapters, links, starts, full, table)"],
+    "fulls": ["least_fulls(book, chapters, links, starts)"],
+    "archives": ["rebook(archive, book)", "tried(archive, changes, n)", "tried_apart(archive, lots, n)",
+                 "tried_within(archive, lots, n)"],
 }
 
 CLASSES = {
@@ -89,11 +102,22 @@ CLASSES = {
     ("rounds", "Round"): ["__init__(self, web, house, journey)", "fate(self, word)"],
     ("shelves", "Shelf"): ["__init__(self, book, menu)", "__len__(self)", "__iter__(self)", "__getitem__(self, n)",
                            "follow(self, n)", "way(self, n)", "after(self, row)", "place_of(self, book)"],
+    ("commuting", "Commuting"): ["__init__(self, book, first, second, style)", "__bool__(self)"],
+    ("renewals", "Renewals"): ["__init__(self, shelf, style)", "__bool__(self)", "sure(self, n, k)"],
+    ("handover", "Prepared"): ["__init__(self, book, reading, lot)", "__call__(self, paper)", "__add__(self, other)",
+                               "__len__(self)", "__iter__(self)"],
+    ("seams", "Seams"): ["__init__(self, book, style, lot, *, headings=False)", "__bool__(self)"],
+    ("readers", "Readers"): ["__init__(self, book, chapters, links, starts, full)", "__bool__(self)",
+                             "keeps(self, path)"],
+    ("archives", "Archive"): ["__init__(self, style, book)", "enter(self, reading)", "amend(self, change)",
+                              "renew(self, n)", "__getitem__(self, n)", "__len__(self)", "__iter__(self)"],
+    ("archives", "Trial"): ["__init__(self, archive)", "__enter__(self)", "__exit__(self, kind, value, trace)"],
 }
 
 PROPERTIES = {
     ("styles", "Style"): ["vocabulary"], ("terms", "Term"): ["gap"], ("books", "Book"): ["names", "picks"],
     ("roads", "Road"): ["picks", "beginning"], ("turners", "Turners"): ["names"], ("wants", "Words"): ["beginning"],
+    ("archives", "Archive"): ["present", "editions", "stale"],
 }
 
 
@@ -131,6 +155,7 @@ class Interface(unittest.TestCase):
         self.assertEqual(module("words").GAP, "_")
         self.assertEqual(module("carrying").BEGINNING, ("", 0, (), (), (), ()))
         self.assertEqual(vars(module("outlooks").Outlook)["MOST"], 300)
+        self.assertEqual(module("handover").THINGS, ("held", "scope", "turn", "used"))
 
     def test_the_package_binds_nothing_itself(self):
         package = importlib.import_module("keptacross")

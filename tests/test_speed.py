@@ -5,35 +5,50 @@ import unittest
 
 from keptacross.able import Able
 from keptacross.alike import Alike
+from keptacross.archives import Archive, tried_within
 from keptacross.atonce import AtOnce, least_sight
 from keptacross.begun import classes
 from keptacross.books import Book
 from keptacross.booktext import read_book, write_book
 from keptacross.carrying import carried
+from keptacross.commuting import all_commute
+from keptacross.detours import leading_back, lookings
 from keptacross.errors import TooMany, Unsettled
+from keptacross.fulls import least_fulls
 from keptacross.growth import Growth
+from keptacross.handover import THINGS, by_hands, papers
+from keptacross.journeys import Journeys
 from keptacross.keeping import Keeping
 from keptacross.known import Known
 from keptacross.knownlook import judge_known
 from keptacross.needless import lean, needless
 from keptacross.notes import Notes
 from keptacross.outlooks import Outlook
+from keptacross.questions import Questions
+from keptacross.renewals import Renewals
 from keptacross.roads import Road
+from keptacross.rounds import spare_books
 from keptacross.rules import Rules
 from keptacross.scopes import same_scopes
+from keptacross.seams import least_lots
+from keptacross.shelves import Shelf
 from keptacross.sources import Sources
+from keptacross.sourcetexts import SourceTexts
 from keptacross.styles import Style
 from keptacross.telling import told_by
 from keptacross.terms import Term
+from keptacross.together import left_out
 from keptacross.tongues import Tongue
 from keptacross.turnback import ring, spare, undone
 from keptacross.turners import Turners, judge_turners
 from keptacross.turnwords import gathered, led, surely_gathered
 from keptacross.wants import Words
 from keptacross.wordmaps import WordMap
+from keptacross.works import turned_chapters
 from test_begun import wide_outlook
 from test_outlooks import counter, first_ways
 from test_wants_known import two_rings
+from test_webs import four_hundred
 
 WORDS = tuple("abcdefgh")
 LONG = [chr(97 + k // 26) + chr(97 + k % 26) for k in range(600)]
@@ -177,6 +192,69 @@ class Speed(unittest.TestCase):
             told_by(Road(book), page, Words(("a",)), style)
         with self.assertRaises(TooMany):
             told_by(Road(ringing_book(601)), (), Road(growing_book(), growing_book()), Style.free(WORDS))
+
+    def test_sources_far_apart_and_in_very_many_lots(self):
+        ring = WordMap.of(tuple(zip(LONG[:599], LONG[1:599] + LONG[:1])))
+        book = Book(Tongue(WORDS), (Term("t", ("a",), ((),), turn="k"), Term("u", ("b",), ((LONG[0],),))),
+                    turns=(("k", ring),))
+        texts = SourceTexts(Road(book), LONG[:1], Style(((("a", 0), ("b", 1)), ()), (1,)))
+        self.assertEqual([len(texts[k]) for k in (0, 1, 100, 200)], [1, 600, 59901, 119801])
+        ways = ((), ("x",), ("x", "x"))
+        book = Book(Tongue(WORDS), [Term("t" + word, (word,), ways[k % 2:k % 2 + 2]) for k, word in enumerate(WORDS)])
+        with self.assertRaises(TooMany):
+            SourceTexts(Road(book), ("x",) * 60, Style.free(WORDS))
+        texts = SourceTexts(Road(book), ("x",) * 20, Style.free(WORDS))
+        self.assertEqual((len(texts[200]), len(next(texts.upto(20)))), (10, 10))
+
+    def test_twelve_texts_of_ten_words(self):
+        style = Style(((("a", 0), ("b", 1), ("c", 2)), (("a", 1),), ()), (0, 1, 2))
+        asked = Questions(Road(Book(Tongue(WORDS), [Term("t" + word, (word,), (("x",),)) for word in WORDS])),
+                          ("x",) * 10, Words(WORDS), style)
+        self.assertEqual((len(asked.texts), asked.count), (12, 10))
+        self.assertEqual(asked.lots, (tuple(range(10)),))
+
+    def test_webs_with_400_rows(self):
+        web = four_hundred(0)
+        self.assertEqual((len(Journeys(web, "h")), spare_books(web)), (400, ()))
+        self.assertEqual(len(left_out(web, "h")), 5)
+
+    def test_shelves_of_60_books(self):
+        terms = [Term(name, (word,), ((name,), ("x" + name,)), first=("f",)) for name, word in zip("abcd", "efgh")]
+        menu = tuple(("rise", name) for name in "abcd") + (("drop", "d"), ("scope", "c", ("plain",)))
+        shelf = Shelf(Book(Tongue(WORDS), terms), menu)
+        self.assertEqual(len(shelf), 60)
+        style = Style.free(WORDS[:3] + WORDS[4:6])
+        self.assertIsNone(all_commute(shelf, style))
+        renewals = Renewals(shelf, Style.free(WORDS[4:6]))
+        self.assertTrue(renewals)
+        self.assertEqual(len(leading_back(shelf, Style.free(WORDS[:3]))), 60)
+        found = {lookings(renewals, n, m) for n in range(60) for m in range(60)}
+        self.assertEqual({pair and pair[0] for pair in found}, {0, None})
+
+    def test_seams_with_1000_pairs(self):
+        self.assertEqual(least_lots(ringing_book(31), Style.free(WORDS)), ((),))
+        self.assertEqual(least_lots(ringing_book(1000), Style.free(WORDS), headings=True), ((),))
+        self.assertEqual(len(papers(first_ways(8), Style.free(WORDS), THINGS)), 255)
+
+    def test_works_of_360_words(self):
+        book = Book(Tongue(WORDS), [Term("t" + word, (word,), ((word,),), first=("f", word)) for word in WORDS])
+        work = tuple(tuple((WORDS[k * 7 % 8], k % 3) for k in range(60)) for _ in range(6))
+        links = tuple((one, other) for one in range(6) for other in range(6))
+        self.assertEqual(least_fulls(book, work, links, (0,)), ((0,),))
+        self.assertEqual(least_fulls(book, work, links, tuple(range(6))), (tuple(range(6)),))
+        self.assertEqual(len(by_hands(book, work, ())), 360 + 6 * 8)
+        self.assertEqual(turned_chapters(book, growing_book(), work), tuple(range(6)))
+
+    def test_archives_with_many_pages(self):
+        archive = Archive(Style.free(WORDS), Book(Tongue(WORDS), [Term("t" + word, (word,), ((word, "x"),)) for word in WORDS]))
+        for k in range(200):
+            archive.enter(tuple((WORDS[k % 8], 0) for _ in range(30)))
+        archive.amend(("say", "x", "y"))
+        for k in range(200):
+            archive.renew(k)
+        self.assertEqual(archive.stale, ())
+        lots = tuple((("say", one, other),) for one, other in zip("ypqrstuv", "pqrstuvw"))
+        self.assertEqual(len(set(tried_within(archive, lots, 7))), 8)
 
     def test_long_lines(self):
         maps = WordMap.of(tuple(zip(LONG, LONG[1:] + LONG[:1])))

@@ -12,6 +12,7 @@ from keptacross.known import Known
 from keptacross.knownlook import judge_known
 from keptacross.roads import Road
 from keptacross.rules import Rules
+from keptacross.seams import Seams, judge_seams
 from keptacross.styles import Style
 from keptacross.uses import judge_use
 from keptacross.wants import Words
@@ -60,6 +61,12 @@ class Unbounded(unittest.TestCase):
         self.spoilt(lambda table: judge_alike(self.ring, other, STYLE, table),
                     [(0, one, two, NOTHING) for one, two in zip(self.rows, standings(other, 1001))])
 
+    def test_seams(self):
+        book = self.ring.books[0]
+        self.assertRaises(TooMany, Seams, book, STYLE, ("turn",))
+        self.spoilt(lambda table: judge_seams(book, STYLE, ("turn",), table),
+                    [(0, row[0], row[0], NOTHING) for row in self.rows])
+
     def test_known(self):
         road, want = Road(counter(45)), Words(())
         self.assertRaises(TooMany, Known, road, want, STYLE)
@@ -90,6 +97,9 @@ class Strange(unittest.TestCase):
             first = (0, road.beginning, road.beginning, NOTHING)
             self.assertEqual(judge_alike(road, road, STYLE, ((0, thing, road.beginning, NOTHING), first)), 0)
             self.assertEqual(judge_alike(road, road, STYLE, ((0, road.beginning, thing, NOTHING), first)), 0)
+            book, first = road.books[0], (0, good, good, NOTHING)
+            for row in ((0, good, thing, NOTHING), (0, thing, good, NOTHING)):
+                self.assertEqual(judge_seams(book, STYLE, (), (row, first)), 0)
             table = Known(road, want, STYLE).table
             for spoilt in (side, right):
                 self.assertEqual(judge_known(road, want, STYLE, table + ((spoilt, (), NOTHING, None),)), len(table))

@@ -5,7 +5,6 @@ from keptacross.errors import BadLot, Unlike
 from keptacross.outlooks import Outlook
 from keptacross.roads import Road
 from keptacross.rows import is_lot, kept
-from keptacross.styles import meet
 from keptacross.works import checked_work
 
 THINGS = ("held", "scope", "turn", "used")
@@ -110,7 +109,6 @@ class Prepared:
 def papers(book, style, lot):
     """All papers that can be handed over at a cut between two words, ascending."""
     things = checked_lot(lot)
-    meet(book.tongue, style)
     outlook = Outlook(Road(book), style)
     # Some word stands ahead of the cut, and some word can come behind it.
     behind = sorted(set([step[3] for number in range(len(outlook)) for step in outlook.follow(number)]))

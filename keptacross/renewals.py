@@ -4,7 +4,7 @@ from keptacross.errors import BadRow
 from keptacross.known import Known
 from keptacross.pagewalk import checked_page
 from keptacross.roads import Road
-from keptacross.rows import is_below
+from keptacross.rows import is_below, kept
 from keptacross.styles import meet
 from keptacross.telling import told_by
 
@@ -48,15 +48,16 @@ class Renewals:
 
 def renewed(shelf, style, page, row):
     """The page, and the pages behind each change of a row, each told by the page ahead of it."""
-    tokens = checked_page(page)
+    pages = [checked_page(page)]
     shelf.after(row)
     meet(shelf[0].tongue, style)
-    pages = [tokens]
+    # An error bears the page as it was passed, until it is renewed.
+    here = page
     number = 0
     for change in row:
         behind = shelf.follow(number)[change - 1][0]
         if behind != number:
-            tokens = told_by(Road(shelf[number]), tokens, Road(shelf[behind]), style)
-        pages.append(tokens)
+            here = told_by(Road(shelf[number]), here, Road(shelf[behind]), style)
+        pages.append(kept(here))
         number = behind
     return tuple(pages)

@@ -137,7 +137,8 @@ class Archives(unittest.TestCase):
     def test_places(self):
         for n in NO_PLACES:
             for ask in (lambda: self.archive[n], lambda: self.archive.renew(n), lambda: tried(self.archive, None, n),
-                        lambda: tried_apart(self.archive, ((),), n), lambda: tried_within(self.archive, ((),), n)):
+                        lambda: tried_apart(self.archive, ((None,),), n),
+                        lambda: tried_within(self.archive, ((None,),), n)):
                 with self.assertRaises(NoPlace) as caught:
                     ask()
                 self.assertIs(caught.exception.place, n)

@@ -22,7 +22,7 @@ NEW = Term("new", ("big", "cat"), (("lion",),))
 NO_CHANGES = (None, "", "drop", 5, True, (), [], {}, ("drop",), ("drop", 5), ("drop", ""), ("drop", "one", "two"), ("fly", "one"),
               ("add",), ("add", "one"), ("add", NEW, NEW), ("add", None), ("rise",), ("rise", "One"), ("rise", None),
               ("ways", "one"), ("ways", "one", ()), ("ways", "one", (("le",),) * 4), ("ways", 5, (("le",),)),
-              ("ways", "one", "le"), ("ways", "one", ("le",)), ("ways", "one", (("le",) * 7,)), ("ways", "one", ((5,),)),
+              ("ways", "one", "le"), ("ways", "one", {("le",): 1}), ("ways", "one", ("le",)), ("ways", "one", (("le",) * 7,)), ("ways", "one", ((5,),)),
               ("ways", "one", (("",),)), ("ways", "one", (None,)), ("ways", "one", (("le",),), ()), ("first", "one"),
               ("first", "one", "le"), ("first", "one", ("le",) * 7), ("first", "one", (None,)), ("first", 1, None),
               ("first", "one", None, None), ("first", "one", False), ("scope", "one"), ("scope", "one", ()),
@@ -249,6 +249,17 @@ def shelf_plainly(book, menu):
     return books, ways, follows
 
 
+def shelf_size(book, menu):
+    """How many books can come, by the plain telling."""
+    books = [book]
+    for here in books:
+        for change in menu:
+            behind = changed_plainly(here, change)[0]
+            if behind not in books:
+                books.append(behind)
+    return len(books)
+
+
 class Shelves(unittest.TestCase):
     def test_by_hand(self):
         shelf = Shelf(BOOK, [("drop", "six"), ["add", SIX], ("rise", "two")])
@@ -323,6 +334,13 @@ class Shelves(unittest.TestCase):
         shelf = Shelf(four, rises + (("drop", "d"), ("scope", "c", ("plain",))))
         self.assertEqual(len(shelf), 60)
         self.assertEqual(shelf.place_of(shelf[59]), 59)
+        # A book with two terms, and six changes that make just one book more.
+        two = with_terms(*five.terms[:2])
+        menu = [("add", Term("d", ("the",), (("a",),))), ("rise", "b"), ("say", "a", "z"), ("scope", "a", ("quoted",)),
+                ("ways", "b", (("a",),)), ("drop", "a")]
+        self.assertEqual(len(Shelf(two, menu[:4] + menu[5:])), shelf_size(two, menu[:4] + menu[5:]))
+        self.assertEqual(shelf_size(two, menu), 61)
+        self.assertRaises(TooMany, Shelf, two, menu)
         drops = (("drop", "d"), ("drop", "a"), ("drop", "c"), ("rise", "e"), ("rise", "b"))
         for book, menu, many in [(five, drops + (("scope", "b", ("plain",)),), 62),
                                  (four, rises + (("ways", "c", (("x",),)), ("ways", "c", (("y",),))), 72)]:

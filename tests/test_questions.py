@@ -237,7 +237,8 @@ class Asking(unittest.TestCase):
             with self.assertRaises(BadWant) as caught:
                 judge_plan((("a",),), want, None)
             self.assertIs(caught.exception.want, want)
-        for road, want, word in [(one, other, "p"), (other, one, "q"), (one, Words(("z",)), "p")]:
+        for road, want, word in [(one, other, "p"), (other, one, "q"), (one, Words(("z",)), "p"),
+                                 (Road(Book(Tongue(("a", "p", "q")))), other, "q")]:
             with self.assertRaises(Foreign) as caught:
                 Questions(road, ("x",), want, style)
             self.assertEqual(caught.exception.word, word)

@@ -197,7 +197,7 @@ class Renewed(unittest.TestCase):
         self.assertEqual(renewed(self.shelf, self.style, page, (3,)), (("q",), ("q",)))
         with self.assertRaises(NoSource) as caught:
             renewed(self.shelf, self.style, page, (3, 1))
-        self.assertEqual(caught.exception.page, ("q",))
+        self.assertIs(caught.exception.page, page)
 
     def test_where_it_ends(self):
         book = letters((("x",),), (("y",),))

@@ -204,6 +204,17 @@ class Enough(unittest.TestCase):
                 judged.add(found)
         self.assertGreater(len(judged), 5)
 
+    def test_unlike_at_the_end_alone(self):
+        # No step parts the pages: at the end the whole has said more.
+        book = Book(Tongue(("a",)), (Term("t", ("a", "a"), (("a", "a", "a"),)),))
+        style = Style(((("a", 1),), (("a", 2),), ()), (2,))
+        self.assertEqual(Seams(book, style, ()).row, (("a", 0, 0), ("a", 0, 1)))
+        held = BEGINNING[:5] + ((("a", 0),),)
+        table = (FIRST, (1, held, held, NOTHING), (2, BEGINNING, BEGINNING, NOTHING), (2, BEGINNING, held, (("a", "a"), ())))
+        self.assertEqual((judge_seams(book, style, (), table), closed(book, style, (), False, table)), (3, 3))
+        longer = Style(((("a", 1),), (("a", 2),), (("b", 3),), ()), (3,))
+        self.assertEqual(judge_seams(Book(Tongue(("a", "b")), book.terms), longer, (), table), 2)
+
     def test_just_1000_pairs_and_more(self):
         style = Style.free(("a",))
         self.assertEqual(len(Seams(counter(1000), style, ("turn",)).table), 1000)

@@ -141,10 +141,14 @@ class Webs(unittest.TestCase):
                      ("north", "east", good[2][:2] + (("c", "a"),)), ("north", "east", good[2][:2] + (("c",),)),
                      ("north", "east", good[2][:2] + (("c", "in", "on"),)), ("north", "east", good[2][:2] + ("cc",)),
                      ("north", "east", good[2][:1] + good[2][:2]), ("north", "east", None), ("north", "east", {}),
-                     (["north"], "east", good[2]), ("north", 5, good[2]), ("north", "east", good[2][:2] + (("c", None),))):
+                     (["north"], "east", good[2]), ("north", ["east"], good[2]), ("north", 5, good[2]),
+                     ("north", {}, good[2]), ("north", "east", good[2][:2] + (("c", None),))):
             with self.assertRaises(BadWeb) as caught:
                 Web(HOUSES, BOOKS[:2] + (book,))
             self.assertEqual(caught.exception.word, "books")
+        # A string is no pair, although it could be gone through like one.
+        with self.assertRaises(BadWeb):
+            Web((("h", ("a", "b")),), (("h", "h", ("ab", "ba")),))
         for books in (None, "", {}, BOOKS * 3 + (good,)):
             with self.assertRaises(BadWeb) as caught:
                 Web(HOUSES, books)
@@ -219,6 +223,13 @@ class Tables(unittest.TestCase):
         for row in (("north",) + first[1:], ("east", ("on", "in")) + first[2:], first[:2] + ((1,), first[3]), first[:3], None):
             self.assertEqual(judge_journeys(web, "east", (row,) + table[1:]), -1)
         self.assertEqual(judge_journeys(web, "east", table[1:] + table[:1]), -1)
+
+    def test_true_is_no_number(self):
+        web = Web((("h", ("a", "b")), ("i", ("c",))), (("i", "i", (("c", "c"),)), ("h", "h", (("a", "b"), ("b", "a")))))
+        table = Journeys(web, "h").table
+        self.assertEqual(table, (("h", ("a", "b"), (), ((1, 1),)), ("h", ("b", "a"), (1,), ((1, 0),))))
+        for row in (table[1][:3] + (((True, 0),),), table[1][:3] + (((1, False),),), table[1][:2] + ((True,), ((1, 0),))):
+            self.assertEqual(judge_journeys(web, "h", (table[0], row)), 1)
 
     def test_more_rows_than_can_be_told(self):
         web = six_words("bcdefa")

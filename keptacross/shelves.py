@@ -21,24 +21,23 @@ def checked_menu(menu):
     return kept(menu)
 
 
-def gone_through(book, menu):
-    """All books that can come, and the numbers, steps and arrivals as they are explored.
+class Finder:
+    """Finds the books that come by the changes of a menu: by their lines, which are the same for equal books."""
 
-    Books are looked up by their lines: equal books have equal ones.
-    """
-    books = {write_book(book): book}
+    def __init__(self, book, menu):
+        self._menu = menu
+        self.start = write_book(book)
+        self.books = {self.start: book}
 
-    def steps_from(lines):
+    def steps(self, lines):
+        """The steps from the book with these lines: whether the change is done, or why not, and the lines behind it."""
         steps = []
-        for change in menu:
-            behind, word = changed(books[lines], change)
+        for change in self._menu:
+            behind, word = changed(self.books[lines], change)
             told = write_book(behind)
-            books.setdefault(told, behind)
+            self.books.setdefault(told, behind)
             steps.append((word, told))
         return steps
-
-    numbers, follows, arrivals = explored([write_book(book)], steps_from, MOST_BOOKS, "book")
-    return tuple([books[lines] for lines in numbers]), numbers, follows, arrivals
 
 
 class Shelf:
@@ -46,7 +45,9 @@ class Shelf:
 
     def __init__(self, book, menu):
         self.menu = checked_menu(menu)
-        self._books, self._numbers, self._follows, self._arrivals = gone_through(book, self.menu)
+        finder = Finder(book, self.menu)
+        self._numbers, self._follows, self._arrivals = explored([finder.start], finder.steps, MOST_BOOKS, "book")
+        self._books = tuple([finder.books[lines] for lines in self._numbers])
 
     def __len__(self):
         return len(self._books)

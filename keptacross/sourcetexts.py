@@ -26,7 +26,7 @@ def lots_of_nodes(walk):
         for number in lot:
             for word, behind in ahead[number]:
                 found.setdefault(word, {})[behind] = True
-        return [(word, tuple(sorted(found[word]))) for word in sorted(found)]
+        return [(told, tuple(sorted(found[told]))) for told in sorted(found)]
 
     numbers, follows, _ = explored([(0,)], steps_from, MOST_LOTS, "lot")
     return follows, [any([walk.ends[number] for number in lot]) for lot in numbers]

@@ -199,7 +199,7 @@ class Alikes(unittest.TestCase):
 class Judging(unittest.TestCase):
     def test_spoilt_tables(self):
         judged = 0
-        for seed in range(240):
+        for seed in range(120):
             first, second = variant(seed)
             words = [word for word in first.books[0].tongue.words if word in second.books[0].tongue.words]
             style = brute.some_style(seed, words)
@@ -210,7 +210,7 @@ class Judging(unittest.TestCase):
             for table in brute.spoilt(alike.table, seed, tuples=(1, 2), others=others):
                 judged += 1
                 self.assertEqual(judge_alike(first, second, style, table), closed(first, second, style, table), table)
-        self.assertGreater(judged, 1000)
+        self.assertGreater(judged, 500)
 
     def test_by_hand(self):
         now = Road(letters((("x",),), (("x", "y"),)))

@@ -272,7 +272,7 @@ class AgainstAPlainSearch(unittest.TestCase):
 
     def test_spoilt_tables(self):
         judged = 0
-        for seed in range(120):
+        for seed in range(70):
             sight = seed % 3
             road, rules, style, game = made(seed, sight)
             if game is None or not game or len(game.table) > 12:
@@ -283,7 +283,7 @@ class AgainstAPlainSearch(unittest.TestCase):
                 judged += 1
                 self.assertEqual(judge_at_once(road, rules, style, sight, table),
                                  keeping_plainly(road, rules, style, sight, table), table)
-        self.assertGreater(judged, 500)
+        self.assertGreater(judged, 300)
 
 
 class Errors(unittest.TestCase):

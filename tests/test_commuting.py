@@ -139,7 +139,7 @@ class All(unittest.TestCase):
 
     def test_against_single_comparisons(self):
         none = told = 0
-        for seed in range(90):
+        for seed in range(60):
             chance = random.Random(seed)
             book = plain.some_book(seed, many=2, terms=3)
             style = brute.some_style(seed, book.tongue.words)
@@ -160,8 +160,8 @@ class All(unittest.TestCase):
             self.assertEqual(found[0], first)
             none += first is None
             told += first is not None
-        self.assertGreater(none, 10)
-        self.assertGreater(told, 10)
+        self.assertGreater(none, 6)
+        self.assertGreater(told, 6)
 
 
 if __name__ == "__main__":

@@ -335,7 +335,7 @@ class Knowing(unittest.TestCase):
 class Judging(unittest.TestCase):
     def test_spoilt_tables(self):
         judged = 0
-        for seed in range(100):
+        for seed in range(50):
             road, want, style = made(seed)
             known = brute.asked(lambda: Known(road, want, style))
             if not known or len(known) > 16:
@@ -348,7 +348,7 @@ class Judging(unittest.TestCase):
             for table in self.spoilt(known.table, seed, others):
                 judged += 1
                 self.assertEqual(judge_known(road, want, style, table), right(road, want, style, table), table)
-        self.assertGreater(judged, 2000)
+        self.assertGreater(judged, 1000)
 
     def spoilt(self, table, seed, others):
         for thing in brute.spoilt(table, seed, others=others):

@@ -38,10 +38,10 @@ class Planner:
     def best(self, left):
         """The number of questions, and the plan, for the texts with these numbers."""
         if left not in self._plans:
-            self._plans[left] = self._found(left)
+            self._plans[left] = self._searched(left)
         return self._plans[left]
 
-    def _found(self, left):
+    def _searched(self, left):
         row = self._rows[left[0]]
         if all([self._rows[number] == row for number in left]):
             return 0, ("told", row)

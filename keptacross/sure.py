@@ -4,7 +4,7 @@ from keptacross.errors import NoSource
 from keptacross.pagewalk import PageWalk, checked_page
 from keptacross.search import arrived, least_row
 from keptacross.styles import meet
-from keptacross.telling import wanted_at_ends, wanted_so_far
+from keptacross.telling import Wanted
 from keptacross.wants import check_want, meet_want
 
 
@@ -21,19 +21,21 @@ def text_from(walk, number):
 
 def unlike_texts(walk, want):
     """What is wanted of all sources, and None; or None, and two sources of which unlike things are wanted."""
-    rows, arrivals, clash = wanted_so_far(walk)
-    if clash is not None:
-        number, place = clash
+    wants = Wanted(walk, want)
+    if wants.clash is not None:
+        number, place = wants.clash
         word, _, _, behind = walk.follows[number][place]
         # What is wanted of the same words behind the node makes unlike things no more alike.
         rest = tuple([label[0] for label in text_from(walk, behind)])
-        return None, ((*text_to(walk, arrivals, behind), *rest), (*text_to(walk, arrivals, number), word, *rest))
-    told = wanted_at_ends(walk, want, rows)
-    first, row = told[0]
-    for number, other in told:
-        if other != row:
-            return None, (text_to(walk, arrivals, first), text_to(walk, arrivals, number))
-    return row, None
+        one = text_to(walk, wants.arrivals, behind)
+        other = text_to(walk, wants.arrivals, number)
+        return None, ((*one, *rest), (*other, word, *rest))
+    ends = wants.at_ends()
+    first, row = ends[0]
+    for number, told in ends:
+        if told != row:
+            return None, (text_to(walk, wants.arrivals, first), text_to(walk, wants.arrivals, number))
+    return wants.told(row), None
 
 
 class Sure:

@@ -35,6 +35,7 @@ from keptacross.shelves import Shelf
 from keptacross.sources import Sources
 from keptacross.sourcetexts import SourceTexts
 from keptacross.styles import Style
+from keptacross.sure import Sure
 from keptacross.telling import told_by
 from keptacross.terms import Term
 from keptacross.together import left_out
@@ -205,6 +206,17 @@ class Speed(unittest.TestCase):
             SourceTexts(Road(book), ("x",) * 60, Style.free(WORDS))
         texts = SourceTexts(Road(book), ("x",) * 20, Style.free(WORDS))
         self.assertEqual((len(texts[200]), len(next(texts.upto(20)))), (10, 10))
+
+    def test_long_rows_that_are_wanted(self):
+        # A turn that is another map each time, up to the 590th: so many silent nodes, each word of which is wanted a lot.
+        shift = WordMap.of(tuple(zip(LONG[:589], LONG[1:590])))
+        book = Book(Tongue(WORDS), [Term("t" + word, (word,), ((), (), ()), turn="k") for word in WORDS],
+                    turns=(("k", shift),))
+        sure = Sure(Road(book), (), Road(growing_book(), growing_book(), growing_book()), Style.free(WORDS))
+        self.assertEqual([len(text) for text in sure.pair], [589, 590])
+        same = Road(Book(Tongue(WORDS), [Term("t" + word, (word,), (("x",) * 6,)) for word in WORDS]))
+        with self.assertRaises(Unsettled):
+            told_by(Road(book), (), same, Style.free(WORDS))
 
     def test_twelve_texts_of_ten_words(self):
         style = Style(((("a", 0), ("b", 1), ("c", 2)), (("a", 1),), ()), (0, 1, 2))

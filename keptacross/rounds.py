@@ -44,7 +44,8 @@ def come_to(table, book):
     there = {0: True}
     waiting = [0]
     while len(waiting) > 0:
-        for number, behind in table[waiting.pop()][3]:
+        here = waiting.pop()
+        for number, behind in table[here][3]:
             if number != book and behind not in there:
                 there[behind] = True
                 waiting.append(behind)

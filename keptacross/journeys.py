@@ -50,18 +50,21 @@ class Journeys:
 
 def is_first(thing, web, house):
     """Whether the thing can stand first in a table: the house with its own words and the empty journey."""
-    if not is_tuple_of(thing, 4):
+    if not is_tuple_of(thing, 4) or not is_row(thing[1]) or not is_tuple_of(thing[2], 0):
         return False
-    return kept(thing[:3]) == (house, web.words_of(house), ())
+    return (thing[0], tuple(thing[1])) == (house, web.words_of(house))
 
 
 def checked_row(thing, web, many):
-    """A row of a table, as tuples; None if it does not have the form of one with so many words."""
+    """A row of a table with so many words, as tuples; None if it does not have the form of one.
+
+    What stands in the two tuples is looked at when the row is judged: it can be anything.
+    """
     if not is_tuple_of(thing, 4) or thing[0] not in web or not is_tuple_of(thing[1], many):
         return None
     if not all([is_word(word) for word in thing[1]]) or not is_row(thing[2]) or not is_row(thing[3]):
         return None
-    return kept(thing)
+    return thing[0], tuple(thing[1]), tuple(thing[2]), tuple(thing[3])
 
 
 def node_after(web, house, journey):

@@ -231,6 +231,21 @@ class Tables(unittest.TestCase):
         for row in (table[1][:3] + (((True, 0),),), table[1][:3] + (((1, False),),), table[1][:2] + ((True,), ((1, 0),))):
             self.assertEqual(judge_journeys(web, "h", (table[0], row)), 1)
 
+    def test_very_deep_things_raise_nothing(self):
+        deep = []
+        for _ in range(5000):
+            deep = [deep]
+        table = Journeys(Web(HOUSES[:2], BOOKS[:2]), "east").table
+        web = Web(HOUSES[:2], BOOKS[:2])
+        for place in range(4):
+            for thing in (deep, (deep,)):
+                row = table[1][:place] + (thing,) + table[1][place + 1:]
+                self.assertEqual(judge_journeys(web, "east", table[:1] + (row,) + table[2:]), 0 if place < 2 else 1)
+                first = table[0][:place] + (thing,) + table[0][place + 1:]
+                self.assertEqual(judge_journeys(web, "east", (first,) + table[1:]), -1 if place < 3 else 0)
+                for row in ((thing, "in", "on"), ("east", thing, "on"), thing):
+                    self.assertIsNotNone(judge_apart(web, "east", "in", "on", (("east", "in", "on"), row)))
+
     def test_more_rows_than_can_be_told(self):
         web = six_words("bcdefa")
         table = Journeys(web, "h").table

@@ -77,7 +77,7 @@ def node_after(web, house, journey):
 
 def leads(rows, pair, number, node):
     """Whether a pair has this word book, and the number of a row with this house and these images."""
-    if not is_tuple_of(pair, 2) or not is_below(pair[0], number + 1) or pair[0] != number:
+    if not is_tuple_of(pair, 2) or not is_number(pair[0]) or pair[0] != number:
         return False
     return is_below(pair[1], len(rows)) and rows[pair[1]] is not None and rows[pair[1]][:2] == node
 

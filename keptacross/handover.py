@@ -73,7 +73,7 @@ def by_hands(book, chapters, lot):
 
 
 class Prepared:
-    """A piece that is prepared by its hand before the paper is there; or several of them, joined."""
+    """A piece that is prepared by its hand before the paper is there."""
 
     def __init__(self, book, reading, lot):
         self.readings = (checked_reading(book.tongue, reading),)
@@ -95,15 +95,22 @@ class Prepared:
             raise Unlike("books")
         if self.lot != other.lot:
             raise Unlike("lots")
-        both = Prepared(self.book, (), self.lot)
-        both.readings = self.readings + other.readings
-        return both
+        return Joined(self.book, self.readings + other.readings, self.lot)
 
     def __len__(self):
         return len(self.readings)
 
     def __iter__(self):
         return iter(self.readings)
+
+
+class Joined(Prepared):
+    """Several prepared pieces that are joined. What they are made of was judged when each of them was prepared."""
+
+    def __init__(self, book, readings, lot):
+        self.book = book
+        self.readings = readings
+        self.lot = lot
 
 
 def papers(book, style, lot):

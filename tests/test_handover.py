@@ -178,6 +178,26 @@ class Hands(unittest.TestCase):
                 self.assertEqual(said + finish(book, standing)[1], by_hands(book, work, lot))
                 self.assertEqual((len(one), list(one), one.readings), (1, [work[0]], (work[0],)))
 
+    def test_joined_in_any_grouping(self):
+        for seed in range(60):
+            book = plain.some_book(seed)
+            work = some_work(seed, book, 4, 8)
+            lot = ALL_LOTS[seed * 5 % 16]
+            a, b, c, d = [Prepared(book, reading, lot) for reading in work]
+            groupings = [((a + b) + c) + d, (a + (b + c)) + d, (a + b) + (c + d), a + ((b + c) + d), a + (b + (c + d))]
+            for paper in [handed(book, BEGINNING, lot)[1], *some_papers(seed, book, lot)]:
+                said, behind = (), paper
+                for piece in (a, b, c, d):
+                    told, behind = piece(behind)
+                    said += told
+                for joined in groupings:
+                    self.assertIsInstance(joined, Prepared)
+                    self.assertEqual(joined(paper), (said, behind))
+                    self.assertEqual(joined(brute.as_lists(paper)), (said, behind))
+            for joined in groupings:
+                self.assertEqual((joined.book, joined.readings, joined.lot), (book, work, lot))
+                self.assertEqual((len(joined), list(joined)), (4, list(work)))
+
     def test_joining_changes_nothing(self):
         one = Prepared(self.book, (("a", 0),), ("held",))
         other = Prepared(self.book, (("b", 0),), ("held",))
@@ -187,12 +207,34 @@ class Hands(unittest.TestCase):
         self.assertEqual(one(((),)), ((), ((("a", 0),),)))
         self.assertEqual((both + one).readings, ((("a", 0),), (("b", 0),), (("a", 0),)))
 
+    def test_neither_of_the_joined_ones_is_changed(self):
+        pieces = [Prepared(self.book, ((word, 0),), ("held", "scope")) for word in "abc"]
+        pieces.append(pieces[0] + pieces[1])
+        pieces.append(pieces[3] + pieces[2])
+        paper = ((), ("", 0, ()))
+        ahead = [(vars(piece).copy(), piece(paper), len(piece), list(piece)) for piece in pieces]
+        for one, other in itertools.product(pieces, repeat=2):
+            both = one + other
+            self.assertEqual(both.readings, one.readings + other.readings)
+            self.assertIsNot(both, one)
+            self.assertIsNot(both, other)
+            self.assertEqual([(vars(piece), piece(paper), len(piece), list(piece)) for piece in pieces], ahead)
+        # Joined with itself, too, a piece is as it was.
+        self.assertEqual((pieces[0] + pieces[0]).readings, ((("a", 0),), (("a", 0),)))
+        self.assertEqual(pieces[0].readings, ((("a", 0),),))
+
     def test_unlike_pieces(self):
         one = Prepared(self.book, (), ("held",))
-        for other, word in [(Prepared(Book(self.book.tongue), (), ()), "books"), (Prepared(self.book, (), ()), "lots")]:
-            with self.assertRaises(Unlike) as caught:
-                one + other
-            self.assertEqual(caught.exception.word, word)
+        bare = Book(self.book.tongue)
+        unlike = [(Prepared(bare, (), ()), "books"), (Prepared(bare, (), ("held",)), "books"),
+                  (Prepared(self.book, (), ()), "lots"), (Prepared(self.book, (), ("held", "used")), "lots")]
+        for other, word in unlike:
+            for first, second in ((one, other), (other, one), (one + one, other), (other + other, one), (one, other + other)):
+                before = (vars(first).copy(), vars(second).copy())
+                with self.assertRaises(Unlike) as caught:
+                    first + second
+                self.assertEqual(caught.exception.word, word)
+                self.assertEqual((vars(first), vars(second)), before)
         equal = Book(self.book.tongue, self.book.terms, turns=self.book.turns)
         self.assertEqual(len(one + Prepared(equal, (), ["held"])), 2)
 
@@ -210,6 +252,16 @@ class Hands(unittest.TestCase):
             self.assertEqual(caught.exception.number, number)
         for reading in NO_READINGS:
             self.assertRaises(BadReading, Prepared, Book(Tongue(("a", "b"))), reading, None)
+
+
+def some_papers(seed, book, lot):
+    """Papers that are handed over at cuts of a reading made by chance."""
+    standing = BEGINNING
+    found = []
+    for word, pick in plain.some_reading(seed + 1000, book, 6):
+        standing = hear(book, standing, word, pick)[2]
+        found.append(handed(book, standing, lot)[1])
+    return found
 
 
 def three_said(two, three, paper):

@@ -23,6 +23,15 @@ def is_side(thing, road, want, style):
     return is_road_standing(thing[1], road) and is_want_standing(thing[2], want)
 
 
+def first_dues(rows):
+    """What is due by left, right and owed: of rows with the same the first one counts."""
+    dues = {}
+    for row in rows:
+        if row is not None:
+            dues.setdefault(row[:3], row[3])
+    return dues
+
+
 class RowJudge:
     """Judges the rows of a table, for a road, a want and a style."""
 
@@ -33,10 +42,7 @@ class RowJudge:
         self._walk = SideWalk(road, want, style)
         self._moves = {}
         self.rows = [self._checked(thing) for thing in table]
-        self._dues = {}
-        for row in self.rows:
-            if row is not None:
-                self._dues.setdefault(row[:3], row[3])
+        self._dues = first_dues(self.rows)
 
     def _checked(self, thing):
         """A row, as tuples; None if the thing does not have the form of one."""
@@ -98,7 +104,7 @@ def judge_known(road, want, style, table):
     judge = RowJudge(road, want, style, table)
     if not judge.is_first(judge.rows[0]):
         return -1
-    for number, row in enumerate(judge.rows):
+    for number, row in enumerate(list(judge.rows)):
         if row is None or not judge.holds(row):
             return number
     return None

@@ -9,19 +9,24 @@ from keptacross.styles import meet
 from keptacross.telling import told_by
 
 
+def pairs_of_books(shelf, style):
+    """For each book and each other book to which a change leads from it, two readings if its pages do not tell."""
+    roads = [Road(book) for book in shelf]
+    pairs = {}
+    for number, road in enumerate(roads):
+        for behind, _ in list(shelf.follow(number)):
+            if behind != number and (number, behind) not in pairs:
+                pairs[number, behind] = Known(road, roads[behind], style).pair
+    return pairs
+
+
 class Renewals:
     """Whether all rows of changes are sure: then the table, otherwise the least row that is not, and two readings."""
 
     def __init__(self, shelf, style):
         meet(shelf[0].tongue, style)
         self.shelf = shelf
-        self._roads = [Road(book) for book in shelf]
-        # For each book and each book to which a change leads from it, what shows that its pages do not tell.
-        self._pairs = {}
-        for number, road in enumerate(self._roads):
-            for behind, _ in shelf.follow(number):
-                if behind != number and (number, behind) not in self._pairs:
-                    self._pairs[number, behind] = Known(road, self._roads[behind], style).pair
+        self._pairs = pairs_of_books(shelf, style)
         steps = [(number, change + 1, behind) for number in range(len(shelf))
                  for change, (behind, _) in enumerate(shelf.follow(number))]
         unsure = [step for step in steps if not self.sure(step[0], step[1])]

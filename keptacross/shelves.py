@@ -31,9 +31,10 @@ class Finder:
 
     def steps(self, lines):
         """The steps from the book with these lines: whether the change is done, or why not, and the lines behind it."""
+        book = self.books[lines]
+        found = [changed(book, change) for change in self._menu]
         steps = []
-        for change in self._menu:
-            behind, word = changed(self.books[lines], change)
+        for behind, word in found:
             told = write_book(behind)
             self.books.setdefault(told, behind)
             steps.append((word, told))

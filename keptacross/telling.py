@@ -49,14 +49,14 @@ class Wanted:
         self.arrivals = [None] * len(walk.nodes)
         self.clash = None
         # Live nodes are numbered as they are found: so what is wanted so far is known when a node's turn comes.
-        for number, follow in enumerate(walk.follows):
+        for number, follow in enumerate(list(walk.follows)):
             if self.clash is None:
                 self._go_on(number, follow)
 
     def _go_on(self, number, follow):
         """Takes the steps from a node, up to the first one that clashes."""
         rows = {}
-        for place, (_, _, due, behind) in enumerate(follow):
+        for place, (_, _, due, behind) in enumerate(list(follow)):
             # The same is wanted of a word with all picks.
             if due not in rows:
                 rows[due] = self._rows.behind(self._found[number], due)
@@ -70,7 +70,7 @@ class Wanted:
     def at_ends(self):
         """The pairs of a node that can end, and a number for what is wanted of the sources that lead there."""
         return [(number, self._rows.behind(self._found[number], self._want.finish(node[3])))
-                for number, node in enumerate(self._walk.nodes) if self._walk.ends[number]]
+                for number, node in enumerate(list(self._walk.nodes)) if self._walk.ends[number]]
 
     def told(self, row):
         """What is wanted, by its number."""

@@ -174,7 +174,7 @@ def judge_turners(turns, table):
     if not is_row(table) or len(table) == 0 or not is_first(table[0]):
         return -1
     judge = TableJudge(checked, table)
-    for number, triple in enumerate(judge.triples):
+    for number, triple in enumerate(list(judge.triples)):
         if not judge.is_right(triple):
             return number
     return None

@@ -17,16 +17,18 @@ class Unfolding:
         """The state with a number."""
         return self._states[n]
 
+    def _number_of(self, state):
+        """The number of a state, a new one if it was not there."""
+        if state not in self._numbers:
+            self._numbers[state] = len(self._states)
+            self._states.append(state)
+        return self._numbers[state]
+
     def follow(self, n):
         """The steps from a state: word, pick, what is said, and the number of the state behind it."""
         if n not in self._follows:
-            found = []
-            for word, pick, said, state in self._walk.steps(self._states[n]):
-                if state not in self._numbers:
-                    self._numbers[state] = len(self._states)
-                    self._states.append(state)
-                found.append((word, pick, said, self._numbers[state]))
-            self._follows[n] = found
+            steps = list(self._walk.steps(self._states[n]))
+            self._follows[n] = [(word, pick, said, self._number_of(state)) for word, pick, said, state in steps]
         return self._follows[n]
 
     def ending(self, n):

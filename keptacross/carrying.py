@@ -134,7 +134,7 @@ def cut_pieces(book, known, rest, *, ended):
             break
         piece, known = cut(book, known, ahead)
         found.append(piece)
-        place += piece[2]
+        place = place + piece[2]
     return found, known, rest[place:]
 
 

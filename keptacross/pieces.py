@@ -13,7 +13,7 @@ def pieces(book, reading):
     place = 0
     for _, term, width, said in cut_pieces(book, BEGINNING[:5], checked_reading(book.tongue, reading), ended=True)[0]:
         found.append((place, width, name_of(term), said))
-        place += width
+        place = place + width
     return tuple(found)
 
 

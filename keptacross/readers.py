@@ -24,7 +24,7 @@ def told_in(book, chapter, full):
     while place < len(chapter):
         used = known[3]
         (_, term, width, _), known = cut(book, known, chapter[place:place + MOST_ITEMS])
-        place += width
+        place = place + width
         if term is not None and term.first is not None:
             if term.name not in used:
                 whole.append(term.name)

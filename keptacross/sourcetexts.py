@@ -41,7 +41,8 @@ def in_order(follows):
     found = [number for number, many in enumerate(left) if many == 0]
     at = 0
     while at < len(found):
-        for _, behind in follows[found[at]]:
+        here = found[at]
+        for _, behind in follows[here]:
             left[behind] -= 1
             if left[behind] == 0:
                 found.append(behind)
@@ -58,7 +59,7 @@ def texts_counted(follows, ends):
     many[0] = 1
     for number in order:
         for _, behind in follows[number]:
-            many[behind] += many[number]
+            many[behind] = many[behind] + many[number]
     return sum([texts for texts, end in zip(many, ends) if end])
 
 

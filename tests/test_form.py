@@ -8,7 +8,8 @@ import re
 import tokenize
 import unittest
 
-from loops import wrong_loops
+from loops import field_loops, filling_methods, greedy_rows, wrong_loops
+from operators import Reach
 
 FOLDER = os.path.join(os.path.dirname(os.path.abspath(__file__)), "..", "keptacross")
 
@@ -62,13 +63,6 @@ def decorated(word):
 
 SETTERS = {node.name for _, node in NODES if isinstance(node, ast.FunctionDef)
            for word in node.decorator_list if isinstance(word, ast.Attribute)}
-
-
-def made_here(function):
-    """The local names to which an operator gives new objects: it may set their attributes."""
-    return {part.targets[0].id for part in ast.walk(function) if isinstance(part, ast.Assign)
-            and isinstance(part.targets[0], ast.Name) and isinstance(part.value, ast.Call)
-            and isinstance(part.value.func, ast.Name) and part.value.func.id in OWN_CLASSES}
 
 
 def bound_at_module_level(tree):
@@ -239,15 +233,58 @@ class Form(unittest.TestCase):
                     self.assertEqual(returns, [])
                 else:
                     self.assertEqual([called(value) for value in returns], ["len" if node.name == "__len__" else "iter"])
-            free = ("__call__", "__enter__", "__exit__")
-            if isinstance(node, ast.FunctionDef) and not any(isinstance(word, ast.Attribute) for word in node.decorator_list)\
-                    and (node.name in SPECIAL[1:] and node.name not in free or node.name in decorated("property")):
-                own = made_here(node)
-                self.bar("L5", [(name, part) for part in ast.walk(node)
-                                if isinstance(part, (ast.AugAssign, ast.Delete))
-                                or isinstance(part, ast.Attribute) and isinstance(part.ctx, ast.Store)
-                                and getattr(part.value, "id", None) not in own
-                                or isinstance(part, ast.Subscript) and isinstance(part.ctx, ast.Store)])
+
+    def test_operators_change_nothing_and_call_nothing_that_they_are_handed(self):
+        reach = Reach(TREES)
+        self.assertGreater(len(reach.operators()), 60)
+        self.assertEqual(reach.wrong(), [])
+        for text in ("return good(self)", "return self.good(other)", "return [good(part) for part in self.parts]",
+                     "return asked(other, lambda part: part)", "return Box(other)", "box = Lid(other)\n        box.parts = ()",
+                     "self.parts = other", "self.parts[0] = other", "self.parts.append(other)", "other.clear()",
+                     "parts = self.parts\n        parts.pop()", "parts = []\n        parts = other\n        parts.pop()",
+                     "return filled(other)", "total = 0\n        total += other", "return self.later()",
+                     "self.parts += 1", "del self.parts[0]", "return other.later()"):
+            self.assertNotEqual(self.box(text).wrong(), [], text)
+        for text in ("return Lid(other)", "parts = []\n        parts.append(other)", "total = 0\n        total += 1",
+                     "parts = list(other)\n        parts[0] = self", "return found(self.parts)", "return self.soon()",
+                     "return tuple(sorted(other))", "return self.parts.index(other)", "raise Gone(other)"):
+            self.assertEqual(self.box(text).wrong(), [], text)
+
+    def box(self, text):
+        """What operators reach where one of a class has these rows, and another one may be called by it."""
+        rows = f"""
+class Gone(ValueError):
+    def __init__(self, part):
+        super().__init__(part)
+        self.part = part
+
+def asked(parts, good):
+    return good(parts)
+
+def filled(parts):
+    parts.append(1)
+
+def found(parts):
+    return [part for part in parts if found(part)]
+
+class Box:
+    def __init__(self, parts):
+        self.parts = asked(parts, bool)
+
+    def later(self):
+        self.parts = ()
+
+    def soon(self):
+        return self.parts
+
+    def __add__(self, other):
+        {text}
+
+class Lid(Box):
+    def __init__(self, parts):
+        self.parts = parts
+"""
+        return Reach({"box.py": ast.parse(rows)})
 
     def test_builtins(self):
         found = []
@@ -330,6 +367,34 @@ class Form(unittest.TestCase):
             self.assertNotEqual(wrong_loops(ast.parse("def f(xs, ys):\n    " + text)), [], text)
         for text in ("for x in list(xs):\n        xs.append(x)", "for x in xs:\n        ys.append(x)"):
             self.assertEqual(wrong_loops(ast.parse("def f(xs, ys):\n    " + text)), [], text)
+
+    def test_no_loop_gives_items_to_an_attribute_while_it_walks_one(self):
+        filling = filling_methods(TREES.values())
+        for name, tree in TREES.items():
+            self.assertEqual(field_loops(tree, filling), [], name)
+        ways = "class Box:\n    def fill(self, x):\n        self.ys.append(x)\n    def pour(self, x):\n        self.fill(x)\n"
+        for text in ("for x in self.xs:\n            self.ys[x] = x", "for k, x in enumerate(self.xs):\n            self.ys[k] = x",
+                     "for x in xs.follow(1):\n            self.ys[x] = x", "xs = self.xs\n        for x in xs:\n            self.ys.append(x)",
+                     "for x in self.xs:\n            for y in list(x):\n                self.ys.setdefault(x, y)",
+                     "for x in self.xs:\n            self.fill(x)", "for x in zip(self.xs, xs):\n            self.pour(x)",
+                     "for x in self.xs[1]:\n            self.ys.update(x)", "for x in self.xs.items():\n            del self.ys[x]",
+                     "return [self.pour(x) for x in self.xs]"):
+            tree = ast.parse(f"{ways}    def walk(self, xs):\n        {text}")
+            self.assertNotEqual(field_loops(tree, filling_methods([tree])), [], text)
+        for text in ("for x in list(self.xs):\n            self.ys[x] = x", "ys = {}\n        for x in self.xs:\n            ys[x] = x",
+                     "for x in xs:\n            self.fill(x)", "xs = [self.xs]\n        for x in xs:\n            self.ys[x] = x",
+                     "for x in self.xs:\n            self.y = x"):
+            tree = ast.parse(f"{ways}    def walk(self, xs):\n        {text}")
+            self.assertEqual(field_loops(tree, filling_methods([tree])), [], text)
+
+    def test_nothing_is_given_what_it_changes(self):
+        for name, tree in TREES.items():
+            self.assertEqual(greedy_rows(tree), [], name)
+        for text in ("xs[0] += xs[1]", "x = xs[1]\n    xs[0] += x", "xs.extend(xs)", "xs.update({x: 1 for x in xs})",
+                     "ys = xs\n    xs.extend(ys)", "ys.append(xs)\n    ys.extend(xs)", "xs |= ys"):
+            self.assertNotEqual(greedy_rows(ast.parse("def f(xs, ys):\n    " + text)), [], text)
+        for text in ("xs[0] += 1", "xs[0] = xs[0] + xs[1]", "xs.extend(ys)", "xs.update({y: 1 for y in ys})"):
+            self.assertEqual(greedy_rows(ast.parse("def f(xs, ys):\n    " + text)), [], text)
 
     def test_sets(self):
         found = []
